@@ -1,0 +1,1 @@
+"""Sourceback: edit the output, and the sources follow."""

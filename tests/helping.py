@@ -1,0 +1,52 @@
+"""What several tests use."""
+
+from sourceback.errors import SourceError
+from sourceback.projects import Project
+
+WORDS = ("import", "template", "list", "document", "let", "new", "for",
+         "in", "where", "give", "if", "then", "else")
+SIGNS = tuple("{}[]():.,=+-*")
+
+
+def deep(depth, kind):
+    """A value nested so deep."""
+    value = "a"
+    for _ in range(depth):
+        value = [value] if kind == "list" else (value,) if kind == "tuple" else {"a": value}
+    return value
+
+
+# Values that are nothing that this package knows, whatever a function asks for.
+ANY = [
+    None, True, False, 0, 1, -1, 7, 10 ** 8, "", " ", "a b", "A", "new", "*", "#0",
+    (), [], {}, ("main",), ["main"], {"main": 1}, ("main", ()), ["main", ("a",)], ("main", ["a"]),
+    ("main", ("a", True)), (None, None), (1, 2), ("", ""), ("", "", ""), ((), (), ()),
+    ("main", "", ()), ("main", "", ("*",)), ("main", "", (None,)), ("main", "", [("a",)]),
+    ("main", (("a",),)), ("main", ({},)), ("main", "", ({},)), ([], [], []), ({}, {}, {}),
+    ("main", "", (True, "p")), ("main", ("a", "*", "b")), ("nofile", ("a",)), ("nofile", "", ("a",)),
+    deep(40, "list"), deep(40, "tuple"), deep(40, "dict"), ("main", deep(30, "tuple")),
+    ("main", "", deep(30, "tuple")), ((("main", ""),),), [("main", "")], {1: [2, (3, {"x": None})]},
+]
+
+
+def project(*texts, **files):
+    """A project of the text of main, or of files by their names."""
+    if texts:
+        files = dict(files, main=texts[0])
+    return Project(tuple(files.items()))
+
+
+def fault(*texts, **files):
+    """The error of sources as (word, file, index), or None if there is none."""
+    try:
+        project(*texts, **files)
+    except SourceError as error:
+        return (error.word, error.file, error.index)
+    return None
+
+
+def marked(text):
+    """A text without its @, and the index at which this stands."""
+    at = text.index("@")
+    assert text.count("@") == 1, text
+    return text[:at] + text[at + 1:], at

@@ -1,0 +1,99 @@
+"""The plainest rules of the language that the package is written in, as far as a program sees them."""
+
+import ast
+import pathlib
+import unittest
+
+PACKAGE = pathlib.Path(__file__).resolve().parent.parent / "sourceback"
+BUILTINS = {
+    "len", "range", "enumerate", "zip", "min", "max", "sum", "abs", "sorted", "reversed", "int", "str", "bool",
+    "list", "tuple", "dict", "set", "isinstance", "ord", "any", "all", "divmod", "repr", "map",
+    "ValueError", "TypeError", "KeyError", "property",
+}
+NOT_USED = {"register", "mro", "elements", "open", "input", "law", "type", "id", "dir", "eval", "exec", "vars", "super"}
+
+
+class Language(unittest.TestCase):
+    def setUp(self):
+        self.texts = {path.name: path.read_text("utf-8") for path in sorted(PACKAGE.glob("*.py"))}
+        self.trees = {name: ast.parse(text) for name, text in self.texts.items()}
+
+    def nodes(self, *kinds):
+        for name, tree in self.trees.items():
+            for node in ast.walk(tree):
+                if isinstance(node, kinds):
+                    yield name, node
+
+    def test_the_folder_contains_files_of_the_package_alone(self):
+        found = {path.name for path in PACKAGE.iterdir() if path.name != "__pycache__"}
+        self.assertEqual(found, set(self.texts))
+
+    def test_sizes_and_characters(self):
+        for name, text in self.texts.items():
+            lines = text.split("\n")
+            self.assertLessEqual(len(lines), 399, name)
+            for line in lines:
+                self.assertLessEqual(len(line), 120, (name, line))
+                self.assertTrue(all(" " <= sign <= "~" for sign in line), (name, line))
+        for name, node in self.nodes(ast.FunctionDef):
+            self.assertLessEqual(node.end_lineno - node.lineno + 1, 40, (name, node.name))
+
+    def test_imports_are_from_the_package_and_from_the_file_that_defines_the_name(self):
+        self.assertEqual(list(self.nodes(ast.Import)), [])
+        for name, node in self.nodes(ast.ImportFrom):
+            package, _, module = node.module.partition(".")
+            self.assertEqual((package, node.level), ("sourceback", 0), name)
+            defined = {getattr(part, "name", None) for part in self.trees[module + ".py"].body}
+            for part in self.trees[module + ".py"].body:
+                if isinstance(part, ast.Assign):
+                    defined.add(part.targets[0].id)
+            for alias in node.names:
+                self.assertIn(alias.name, defined, name)
+                self.assertIsNone(alias.asname)
+
+    def test_what_is_imported_is_used_and_hidden_by_nothing(self):
+        for name, tree in self.trees.items():
+            imported = {alias.name for node in ast.walk(tree) if isinstance(node, ast.ImportFrom) for alias in node.names}
+            read = {node.id for node in ast.walk(tree) if isinstance(node, ast.Name) and isinstance(node.ctx, ast.Load)}
+            bound = {node.id for node in ast.walk(tree) if isinstance(node, ast.Name) and isinstance(node.ctx, ast.Store)}
+            bound |= {node.arg for node in ast.walk(tree) if isinstance(node, ast.arg)}
+            self.assertLessEqual(imported, read, name)
+            self.assertEqual(imported & bound, set(), name)
+
+    def test_no_file_leads_back_to_itself(self):
+        uses = {name: set() for name in self.trees}
+        for name, node in self.nodes(ast.ImportFrom):
+            uses[name].add(node.module.partition(".")[2] + ".py")
+        left = set(uses)
+        while left:
+            free = {name for name in left if not uses[name] & left}
+            self.assertTrue(free, left)
+            left -= free
+
+    def test_names(self):
+        defined = set()
+        for _, node in self.nodes(ast.FunctionDef, ast.ClassDef):
+            defined.add(node.name)
+        for name, node in self.nodes(ast.Name):
+            self.assertNotIn(node.id, NOT_USED, name)
+            if isinstance(node.ctx, ast.Store):
+                self.assertNotIn(node.id, BUILTINS, name)
+        for name, node in self.nodes(ast.arg):
+            self.assertNotIn(node.arg, BUILTINS | NOT_USED, name)
+        self.assertEqual(defined & (BUILTINS | NOT_USED), set())
+
+    def test_what_is_not_of_the_language(self):
+        kinds = (ast.Global, ast.AsyncFunctionDef, ast.Await, ast.Div)
+        self.assertEqual([(name, node.lineno) for name, node in self.nodes(*kinds)], [])
+        for name, node in self.nodes(ast.Constant):
+            self.assertNotIsInstance(node.value, (float, bytes, complex), name)
+
+    def test_decorators_are_properties(self):
+        for name, node in self.nodes(ast.FunctionDef):
+            self.assertIn([ast.unparse(part) for part in node.decorator_list], ([], ["property"]), name)
+        for name, node in self.nodes(ast.ClassDef):
+            self.assertEqual(node.decorator_list, [])
+
+
+if __name__ == "__main__":
+    unittest.main()
