@@ -4,9 +4,7 @@ from sourceback.layers import first_expressed, reads_at
 
 
 def circle_faults(layers, tree):
-    """The index of the word document if a place of the document reads itself."""
-    if tree.document is None:
-        return []
+    """The index of the word document if a place of the document of this file reads itself."""
     read_by = {}
     unread = {}
     for (file, pattern), levels in layers.items():

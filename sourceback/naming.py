@@ -95,7 +95,7 @@ def template_marks(owner):
 
 def ring_faults(sources, tree):
     """The templates that use themselves, perhaps over others."""
-    return [owner.index for owner in tree.owners() if owner.name != "" and is_in_ring(sources, owner)]
+    return [owner.index for owner in tree.owners() if is_in_ring(sources, owner)]
 
 
 def is_in_ring(sources, start):

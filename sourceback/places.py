@@ -35,7 +35,7 @@ def levels(project, place):
 
 def definition(project, spot):
     """What the sources say at a spot: a literal, an expression, or None."""
-    if not is_spot_shaped(spot) or spot[0] not in project:
+    if not is_spot_shaped(project, spot):
         raise NoSpot(spot)
     file, name, path = spot
     owner = project.sources.owner_at(file, name)
@@ -57,12 +57,12 @@ def shown_definition(value):
     return ("expression", value.text) if is_expression(value) else ("literal", value.worth)
 
 
-def is_spot_shaped(value):
-    """Tell whether any value is a tuple of two strings and a path of strings and integers."""
+def is_spot_shaped(project, value):
+    """Tell whether any value is a tuple of a file, a string and a path of strings and integers."""
     if not isinstance(value, tuple) or len(value) != 3:
         return False
     file, name, path = value
-    if not isinstance(file, str) or not isinstance(name, str) or not isinstance(path, tuple):
+    if file not in project or not isinstance(name, str) or not isinstance(path, tuple):
         return False
     return all([is_part(part) for part in path])
 

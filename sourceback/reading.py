@@ -2,7 +2,7 @@
 
 from sourceback.layers import first_told, pattern_of, reads_at
 from sourceback.sources import reads_item
-from sourceback.trees import Choice, Literal, Loop, Record
+from sourceback.trees import Choice, Literal, Loop, Record, paths_of
 
 
 class Reading:
@@ -35,20 +35,10 @@ class Reading:
 
     def missing(self, file, path):
         """The places without a value yet that must have one before this place can."""
-        if (file, path) in self.told:
-            return []
+        # Of a choice both sides are read, which leads into no circle: sources that let it are refused.
         level = self.telling(file, path)
-        value = level.value
-        if isinstance(value, Choice):
-            compared = self.unknown(file, reads_at(level, path, [value.path]))
-            if compared:
-                return compared
-            value = self.side(file, path, level)
-        return [] if isinstance(value, Literal) else self.unknown(file, reads_at(level, path, value.paths()))
-
-    def unknown(self, file, paths):
-        """Those of the places that have no value yet."""
-        return [path for path in paths if (file, path) not in self.told]
+        reads = reads_at(level, path, paths_of(level.value))
+        return [read for read in reads if (file, read) not in self.told]
 
     def reckoned(self, file, path):
         """The value of a place, when all that it reads have one."""
@@ -136,7 +126,7 @@ def found_at(reading, value):
     hidden = False
     at = 0
     while at < len(path):
-        entry = base.body.named.get(path[at]) if isinstance(path[at], str) else None
+        entry = base.body.named.get(path[at])
         if entry is None:
             return None
         hidden = hidden or entry.hidden

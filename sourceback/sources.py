@@ -65,7 +65,7 @@ class Sources:
         """The base of the record to which the path of a document leads."""
         base = self.trees[file].document
         for part in parts:
-            if isinstance(part, str) and part != "*":
+            if isinstance(part, str):
                 base = self.inner(base, base.body.named[part])
         return base
 

@@ -27,7 +27,7 @@ def shown(project, rows_place):
 
 def output(project, file):
     """The output of a document, with rows as tuples of records."""
-    if not isinstance(file, str) or file not in project.documents:
+    if file not in project.documents:
         raise NoFile(file)
     reading = Reading(project)
     return record_at(reading, file, (), reading.sources.trees[file].document, False)
@@ -35,7 +35,7 @@ def output(project, file):
 
 def labelled(project, file):
     """The output of a document, with rows as tuples of (serial, record)."""
-    if not isinstance(file, str) or file not in project.documents:
+    if file not in project.documents:
         raise NoFile(file)
     reading = Reading(project)
     return record_at(reading, file, (), reading.sources.trees[file].document, True)

@@ -209,6 +209,9 @@ class Nothing(unittest.TestCase):
             found = [value[:-1] + (path,) for path in self.changed(value[-1])]
             found += [(other,) + value[1:] for other in ("lib", "main", "nofile", "", None, 0, ("main",), ["main"], {})]
             found += [value[:-1], value + value[-1:], list(value), value[-1], (value,), {"a": value}]
+            if len(value) == 3:
+                owners = ("", "box", "shelf", "goods", "none", "nothing", None, 0, True, (), [], {}, ["box"], ("box",))
+                found += [(value[0], other, value[2]) for other in owners]
             for one in found:
                 if repr(one) not in exact:
                     yield one
@@ -239,6 +242,12 @@ class Nothing(unittest.TestCase):
             definition(self.project, spot)
         for value in ANY + list(self.near(found, found)):
             self.refused(NoSpot, definition, value)
+
+    def test_the_form_alone_does_not_make_a_spot(self):
+        for spot in (("lib", "box", ("width",)), ("lib", "goods", (0, "p")), ("main", "", ("last",))):
+            for at in range(3):
+                for other in (None, 0, True, [], {}, list(spot[at]), (spot[at],), {spot[at]: 1}):
+                    self.refused(NoSpot, definition, spot[:at] + (other,) + spot[at + 1:])
 
     def test_spots_that_the_first_rule_excepts(self):
         for value in (("main", "", ("one", "rows", "*", "width")), ("lib", "tall", ("rows", "*", "width")),

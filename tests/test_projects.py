@@ -136,7 +136,7 @@ class Written(unittest.TestCase):
     def test_without_a_file_that_is_not_there(self):
         made = Project(SIX[:3])
         for value in ANY + ["z", "d"]:
-            self.assertEqual(made.written(value, None), made)
+            self.assertIs(made.written(value, None), made)
         alone = Project(SIX[:1])
         self.assertEqual(alone.written("z", None), alone)
 
