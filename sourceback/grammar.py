@@ -178,9 +178,11 @@ class Parser:
 
     def read_where(self):
         """The condition of a loop, behind its word."""
+        start = self.at
         left = self.read_path()
         self.expect("=")
-        return Where(left, self.read_path() if is_name(self.token()) else self.read_literal())
+        right = self.read_path() if is_name(self.token()) else self.read_literal()
+        return Where(self.text_from(start), left, right)
 
     def read_choice(self):
         """A choice."""

@@ -35,17 +35,13 @@ def levels(project, place):
 
 def definition(project, spot):
     """What the sources say at a spot: a literal, an expression, or None."""
-    if not is_spot_shaped(project, spot):
+    if not is_spot(project, spot):
         raise NoSpot(spot)
     file, name, path = spot
     owner = project.sources.owner_at(file, name)
     if owner is not None:
-        if not leads_to_simple(project.sources, owner, path) or not says(owner, path):
-            raise NoSpot(spot)
         return shown_definition(defined(owner, path))
     stock = project.sources.known_stock(file, name)
-    if not has_field(project, file, stock, path):
-        raise NoSpot(spot)
     at = project.serials(file, name).index(path[0])
     return shown_definition(stock.goods[at].named[path[1]].value)
 
@@ -55,6 +51,17 @@ def shown_definition(value):
     if value is None:
         return None
     return ("expression", value.text) if is_expression(value) else ("literal", value.worth)
+
+
+def is_spot(project, value):
+    """Tell whether any value is a spot."""
+    if not is_spot_shaped(project, value):
+        return False
+    file, name, path = value
+    owner = project.sources.owner_at(file, name)
+    if owner is not None:
+        return leads_to_simple(project.sources, owner, path) and says(owner, path)
+    return has_field(project, file, project.sources.known_stock(file, name), path)
 
 
 def is_spot_shaped(project, value):

@@ -19,7 +19,7 @@ class Reading:
     def worth_at(self, file, path):
         """The value of a place."""
         # Not by recursion: a value may be read over hundreds of others.
-        waiting = [path]
+        waiting = [] if (file, path) in self.told else [path]
         while waiting:
             missing = self.missing(file, waiting[-1])
             if missing:
@@ -57,9 +57,11 @@ class Reading:
 
     def side(self, file, path, level):
         """The side of a choice that is taken."""
-        choice = level.value
-        same = self.read(file, path, level, choice.path) == choice.literal.worth
-        return choice.sides[0] if same else choice.sides[1]
+        return level.value.sides[0 if self.is_same(file, path, level) else 1]
+
+    def is_same(self, file, path, level):
+        """Tell whether what a choice compares is equal to its literal, when it has a value."""
+        return self.read(file, path, level, level.value.path) == level.value.literal.worth
 
     def read(self, file, path, level, read):
         """What a path reads at a level of a place."""
@@ -72,18 +74,26 @@ class Reading:
         at = self.stored.serials(stock.file, stock.name).index(serial)
         return stock.goods[at].named[field].value.worth
 
-    def shown_at(self, file, path):
-        """The serials of the items that a loop shows at a rows place, in the order of the list."""
+    def loop_at(self, file, path):
+        """The loop of a rows place, and its list."""
         base = self.sources.base_at(file, path[:-1])
         loop = base.body.named[path[-1]].value
-        stock = self.sources.known_stock(base.file, loop.stock.name)
+        return loop, self.sources.known_stock(base.file, loop.stock.name)
+
+    def shown_at(self, file, path):
+        """The serials of the items that a loop shows at a rows place, in the order of the list."""
+        loop, stock = self.loop_at(file, path)
         serials = self.stored.serials(stock.file, stock.name)
         if loop.where is None:
             return serials
-        right = loop.where.right
-        wanted = right.worth if isinstance(right, Literal) else self.worth_at(file, path[:-1] + right.parts)
+        wanted = self.wanted_at(file, path, loop)
         field = loop.where.left.parts[1]
         return tuple([serial for serial in serials if self.item_worth(stock, serial, field) == wanted])
+
+    def wanted_at(self, file, path, loop):
+        """The value of the right side of the condition at a rows place."""
+        right = loop.where.right
+        return right.worth if isinstance(right, Literal) else self.worth_at(file, path[:-1] + right.parts)
 
 
 class Found:

@@ -160,7 +160,8 @@ class Loop:
 class Where:
     """A path to a field of the item, and a literal or a path."""
 
-    def __init__(self, left, right):
+    def __init__(self, text, left, right):
+        self.text = text
         self.left = left
         self.right = right
 

@@ -5,6 +5,12 @@ levels and values of all places by layers: what the bodies around a record say o
 first. It shares nothing with the package.
 """
 
+import random
+
+from sourceback.errors import SourceError
+from sourceback.projects import Project
+
+MANY = 700
 NAMES = [a + b for a in "bcdfghklmnpqrst" for b in "aeiou"]
 
 
@@ -273,7 +279,7 @@ class Output:
 
     def __init__(self, world, pseudo=False):
         self.world, self.pseudo = world, pseudo
-        self.layers, self.kinds, self.hidden, self.rows = {}, {}, {}, {}
+        self.layers, self.kinds, self.hidden, self.rows, self.loops = {}, {}, {}, {}, {}
         self.known = {}
         for file in world.documents:
             document, layers = world.records(file)
@@ -327,6 +333,7 @@ class Output:
             elif value["form"] == "loop":
                 shown = self.shown(file, value, path)
                 self.rows[(file, further)] = (veiled, shown)
+                self.loops[(file, further)] = value
                 tree = []
                 for serial in shown:
                     row = further + (serial,)
@@ -407,3 +414,35 @@ class Output:
         if value["form"] == "sum":
             return [path for _, _, path in value["terms"] if path]
         return [value["path"]] + self.paths(value["sides"][0]) + self.paths(value["sides"][1])
+
+
+class Sound:
+    """The worlds of many seeds that give a project of the size that is told, made once."""
+
+    made = []
+
+    def __init__(self):
+        self.worlds, self.circles = [], 0
+        for seed in range(MANY):
+            world = World(random.Random(seed))
+            pseudo = Output(world, pseudo=True)
+            round_about = sorted(file for file in world.documents if pseudo.has_circle(file))
+            try:
+                project = Project(world.texts())
+            except SourceError as error:
+                found = (error.word, error.file, error.index)
+                text = dict(world.texts())[error.file]
+                expected = ("circle", round_about[0] if round_about else "", text.find("document {"))
+                assert found == expected, (found, world.texts())
+                self.circles += 1
+                continue
+            assert not round_about, world.texts()
+            result = Output(world)
+            if len(result.layers) <= 300:
+                self.worlds.append((world, project, result))
+
+
+def sound():
+    if not Sound.made:
+        Sound.made.append(Sound())
+    return Sound.made[0]

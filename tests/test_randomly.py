@@ -1,15 +1,11 @@
 """Points 3 and 5 at projects by chance, told a second way."""
 
-import random
 import unittest
 
-from randomly import Output, World, expression_text
-from sourceback.errors import SourceError
+from randomly import MANY, expression_text, sound
 from sourceback.places import definition, hidden_places, levels, places, rows_places
-from sourceback.projects import Project
 from sourceback.values import labelled, output, shown, value_of
 
-MANY = 700
 
 
 def record(tree, labels):
@@ -30,26 +26,7 @@ def record(tree, labels):
 class Randomly(unittest.TestCase):
     @classmethod
     def setUpClass(cls):
-        cls.worlds, cls.circles, cls.large = [], 0, 0
-        for seed in range(MANY):
-            world = World(random.Random(seed))
-            pseudo = Output(world, pseudo=True)
-            round_about = sorted(file for file in world.documents if pseudo.has_circle(file))
-            try:
-                project = Project(world.texts())
-            except SourceError as error:
-                found = (error.word, error.file, error.index)
-                text = dict(world.texts())[error.file]
-                expected = ("circle", round_about[0] if round_about else "", text.find("document {"))
-                assert found == expected, (found, world.texts())
-                cls.circles += 1
-                continue
-            assert not round_about, world.texts()
-            result = Output(world)
-            if len(result.layers) > 300:
-                cls.large += 1
-                continue
-            cls.worlds.append((world, project, result))
+        cls.worlds, cls.circles = sound().worlds, sound().circles
 
     def test_there_are_enough(self):
         self.assertGreater(len(self.worlds), MANY // 3)
