@@ -21,6 +21,7 @@ class Ground:
         self.documents = documents
         self.serials = {key: self.project.serials(*key) for key in lists}
         self.nexts = {key: self.project.next_serial(*key) for key in lists}
+        self.records = {file: labelled(self.project, file) for file in documents}
 
 
 PEOPLE = """
@@ -131,7 +132,7 @@ class Flat:
         self.gone, self.fresh = set(), set()
         self.nexts = dict(ground.nexts)
         for file, record in ground.documents.items():
-            self.spread(record, labelled(ground.project, file), file, (), False)
+            self.spread(record, ground.records[file], file, (), False)
         self.start = {place: tuple(serials) for place, serials in self.rows.items()}
         self.first = dict(self.values)
 
@@ -309,6 +310,7 @@ class Both:
         self.fates = (one.fates(), other.fates())
         self.rows = (one.named_rows(), other.named_rows())
         self.texts = (one.named_values(), other.named_values())
+        self.kinds = Flat(ground).kinds
 
     def clashes(self):
         return [(c, d) for c in self.one.changes() for d in self.other.changes() if self.clash(c, d)]
@@ -336,8 +338,7 @@ class Both:
         return bool(came[0] & came[1])
 
     def is_new(self, name, serial):
-        kind = Flat(self.ground).kinds[name]
-        return serial >= self.ground.nexts[kind.items]
+        return serial >= self.ground.nexts[self.kinds[name].items]
 
     def same(self, name):
         """Whether both wish the same tuple without a new item, of the same rows."""
@@ -483,7 +484,7 @@ class Chance:
         return tuple(found)
 
     def step(self):
-        flat, word = self.flat, self.pick(("set", "take", "put", "put", "carry", "carry", "carry", "carry"))
+        flat, word = self.flat, self.pick(("set", "set", "take", "put", "put", "carry", "carry", "carry", "carry"))
         if word == "set":
             place = self.place([p for p in flat.values if p not in flat.fresh or self.chance.random() < 0.1])
             return ("set", place, self.worth(flat.kinds.get(place, "number") if place in flat.values else "number"))
@@ -492,7 +493,7 @@ class Chance:
             free = [p for p in free if any(flat.names[below(p, s)] for s in flat.rows[p])]
         place = self.place(free)
         if place not in flat.rows:
-            return ("take", place, 0)
+            return ("put", place, 0, 0, ()) if word == "put" else ("take", place, 0)
         kind, serials = flat.kinds[place], flat.rows[place]
         if word == "put":
             new = {}
@@ -512,13 +513,33 @@ class Chance:
         return ("carry", place, serial, other, self.number(max(count, 0)))
 
 
-def edit_by_chance(chance, ground, most):
-    """An edit, the Flat that it leaves, and (index, word) of the step that cannot be made, or None."""
-    flat, steps = Flat(ground), []
-    for index in range(chance.randrange(most + 1)):
+def edit_by_chance(chance, ground, most, begin=()):
+    """An edit, the Flat that it leaves, and (index, word) of the step that cannot be made, or None.
+
+    It begins with steps that can be made.
+    """
+    flat, steps = Flat(ground), list(begin)
+    for step in begin:
+        assert flat.make(step) is None
+    for index in range(len(steps), len(steps) + chance.randrange(most + 1)):
         step = Chance(chance, flat).step()
         steps.append(step)
         word = flat.make(step)
         if word:
             return tuple(steps), flat, (index, word)
     return tuple(steps), flat, None
+
+
+def sound_edit(chance, ground, most, begin=()):
+    """An edit that can be made, and the Flat that it leaves."""
+    while True:
+        edit, flat, fault = edit_by_chance(chance, ground, most, begin)
+        if fault is None:
+            return edit, flat
+
+
+def pair_by_chance(chance, ground):
+    """Two edits with the Flats that they leave, some of them with steps that are the same in both."""
+    one = sound_edit(chance, ground, 5)
+    shared = chance.randrange(len(one[0]) + 1) if chance.random() < 0.5 else 0
+    return one, sound_edit(chance, ground, 5, one[0][:shared])

@@ -1,17 +1,24 @@
-"""The examples of points 2 to 5, as they stand in the document."""
+"""The examples of points 2 to 5, 8, 11 and 12, as they stand in the document."""
 
 import unittest
 
 from helping import fault
+from sourceback.edits import wish_of
 from sourceback.errors import SourceError
 from sourceback.files import is_name, tokens
+from sourceback.merging import changes, clashes
 from sourceback.places import definition, levels, places
 from sourceback.projects import Project
+from sourceback.traces import sources, trace
 from sourceback.values import output, value_of
 
 BOXES = ("main", 'template line { size: 2 } template box { width: 40 edge: new line } template wide = box { width: 60 } document { first: new box second: new wide { edge: { size: 3 } } }')
 SHELF = ("main", 'list goods (p: number) [ { p: 1 } ] template line { w: 2 } template shelf { rows: for g in goods give line { w: 3 } } document { s: new shelf }')
 PEOPLE = ("main", 'list people (name: text) [ { name: "Ann" } { name: "Bob" } ] list tasks (title: text, owner: text) [ { title: "a" owner: "Ann" } { title: "b" owner: "Bob" } { title: "c" owner: "Ann" } ] template card { title: "" } template person { name: "" cards: for t in tasks where t.owner = name give card { title: t.title } } document { people: for p in people give person { name: p.name } }')
+
+THREE = ("main", 'template t { a: 3 } document { u: new t v: new t w: new t }')
+SUMS = ("main", 'document { let gap: 3 let rim: 1 width: 2 * gap + 3 * rim inner: 2 * gap }')
+drag = (("carry", ("main", ("people", 0, "cards")), 2, ("main", ("people", 1, "cards")), 0),)
 
 
 class Examples(unittest.TestCase):
@@ -56,6 +63,26 @@ class Examples(unittest.TestCase):
         self.assertEqual(output(project, "main"), (("people", (
             (("name", "Ann"), ("cards", ((("title", "a"),), (("title", "c"),)))),
             (("name", "Bob"), ("cards", ((("title", "b"),),))))),))
+
+    def test_wishes(self):
+        self.assertEqual(
+            wish_of(Project((THREE,)), (("set", ("main", ("u", "a")), 5),)),
+            (((('main', ('u', 'a')), 5), (('main', ('v', 'a')), 3), (('main', ('w', 'a')), 3)), ()))
+
+    def test_merging(self):
+        title = (("set", ("main", ("people", 0, "cards", 2, "title")), "cc"),)
+        self.assertEqual(
+            [changes(Project((PEOPLE,)), drag), list(clashes(Project((PEOPLE,)), drag, title))],
+            [(('row', ('main', ('people', 0, 'cards')), 2), ('rows', ('main', ('people', 0, 'cards'))),
+              ('rows', ('main', ('people', 1, 'cards')))), []])
+
+    def test_traces(self):
+        self.assertEqual(
+            list(trace(Project((BOXES,)), ("value", ("main", ("second", "width"))))),
+            [('none', ('main', '', ('second', 'width'))), ('literal', ('main', 'wide', ('width',)), 60)])
+        self.assertEqual(
+            sources(Project((SUMS,)), ("value", ("main", ("width",)))),
+            (('main', '', ('gap',)), ('main', '', ('rim',))))
 
 
 if __name__ == "__main__":

@@ -12,11 +12,18 @@ FUNCTIONS = {
                "levels": ["project", "place"], "definition": ["project", "spot"]},
     "values": {"value_of": ["project", "place"], "shown": ["project", "rows_place"],
                "output": ["project", "file"], "labelled": ["project", "file"]},
+    "edits": {"wish_of": ["project", "edit"], "wished": ["project", "edit", "file"]},
+    "merging": {"changes": ["project", "edit"], "clashes": ["project", "one", "other"], "merged": ["project", "one", "other"]},
+    "traces": {"things": ["project"], "worth": ["project", "thing"], "trace": ["project", "thing"],
+               "sources": ["project", "thing"], "readers": ["project", "value"]},
 }
 METHODS = {"__init__": ["self", "files"], "serials": ["self", "file", "name"], "next_serial": ["self", "file", "name"],
            "written": ["self", "name", "text"]}
 SIGNS = ("__getitem__", "__contains__", "__len__", "__eq__")
 PROPERTIES = ("files", "names", "documents")
+
+
+GENERATORS = {"tokens", "clashes", "trace"}
 
 
 class Interface(unittest.TestCase):
@@ -28,6 +35,7 @@ class Interface(unittest.TestCase):
                 self.assertTrue(inspect.isfunction(function))
                 self.assertEqual(function.__module__, "sourceback." + module)
                 self.assertEqual(list(inspect.signature(function).parameters), arguments)
+                self.assertEqual(inspect.isgeneratorfunction(function), name in GENERATORS, name)
 
     def test_project(self):
         self.assertEqual(Project.__module__, "sourceback.projects")
