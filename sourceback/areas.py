@@ -29,7 +29,7 @@ class Area:
         return self.serial is not None and self.origin is None
 
     def is_within(self, row):
-        """Tell whether this is a row, or within it."""
+        """Tell whether this is a row, or within it; never if the row is None."""
         area = self
         while area != row and area.stack is not None:
             area = area.stack.area
@@ -41,7 +41,7 @@ class Stack:
 
     stock and template are the list and the template of the rows, each as (file, name), and base is
     that of the template; began has the serials in the project, gone those of the rows that a step
-    took or carried away.
+    took or carried.
     """
 
     def __init__(self, area, path, leads):

@@ -78,7 +78,7 @@ class Meeting:
             return other.rows
         return one.rows if self.same_rows(one, other) else woven(one, other)
 
-    def worth_at(self, place):
+    def wished_at(self, place):
         """The value that is wished at a place that is still there in both."""
         worth = self.one.worths[place]
         return self.other.worths[place] if worth == self.before.worths[place] else worth

@@ -90,7 +90,7 @@ class Outputs:
         stack = self.stack_at(start[0])
         other = self.stack_at(rows_place)
         row = None if stack is None else stack.row_at(start[1])
-        if stack is None or other is None or (row is not None and other.area.is_within(row)):
+        if stack is None or other is None or other.area.is_within(row):
             return "place"
         if (stack.stock, stack.template) != (other.stock, other.template):
             return "rows"
@@ -98,16 +98,13 @@ class Outputs:
             return "serial"
         if index > len(other.rows) - (1 if stack == other else 0):
             return "index"
-        if stack == other:
-            stack.rows.remove(row)
-        else:
-            self.send_off(row)
+        self.send_off(row)
         other.rows.insert(index, row)
         row.stack = other
         return None
 
     def send_off(self, row):
-        """Take a row out of its stack, to which no row of this item can come any more."""
+        """Take a row out of its stack, to which no other row of this item can come any more."""
         row.stack.rows.remove(row)
         row.stack.gone[row.serial] = True
 
@@ -120,9 +117,9 @@ class Outputs:
         if row.serial == self.next_of(row.stack.stock):
             self.nexts[row.stack.stock] = row.serial + 1
             return True
-        return row.serial in self.stored.serials(file, name) or self.is_new(row)
+        return row.serial in self.stored.serials(file, name) or self.came_new(row)
 
-    def is_new(self, row):
+    def came_new(self, row):
         """Tell whether a row is one of a new item that came."""
         file, name = row.stack.stock
         return self.stored.next_serial(file, name) <= row.serial < self.next_of(row.stack.stock)

@@ -101,12 +101,7 @@ def is_listed(project, value):
 
 def looks_at(reading, thing, value):
     """Tell whether the own trace of a thing has a spot or a list."""
-    for step in steps_of(reading, thing):
-        if step[0] in ("none", "literal", "expression") and step[1] == value:
-            return True
-        if step[0] == "list" and step[:3] == value:
-            return True
-    return False
+    return any([step[1] == value or step[:3] == value for step in steps_of(reading, thing)])
 
 
 def worth_of(reading, thing):

@@ -75,14 +75,14 @@ class Weaver:
             around = self.twin(row.stack.area)
             # Where both edits put in the very same rows, only those of the one come.
             if around is not None and row in self.wanted[around.stacks[row.stack.path]]:
-                self.put_row(around.stacks[row.stack.path], row, self.serial_of(named, row))
+                self.add_row(around.stacks[row.stack.path], row, self.serial_of(named, row))
 
     def serial_of(self, named, row):
         """The serial that a row of one of both edits gets."""
         is_new = self.meeting.is_new(row.stack, row.serial)
         return row.serial + (self.meeting.shift(row.stack) if is_new and named == self.meeting.other else 0)
 
-    def put_row(self, stack, row, serial):
+    def add_row(self, stack, row, serial):
         """Put in a row, without those in it."""
         place = place_now(stack.area, stack.path)
         record = record_now(self.outputs.sources, row, row.base, (), False)
@@ -116,6 +116,6 @@ class Weaver:
         for area in self.outputs.areas():
             if not area.was_put():
                 for path, worth in list(area.worths.items()):
-                    wished = self.meeting.worth_at(name_of(area, path))
+                    wished = self.meeting.wished_at(name_of(area, path))
                     if wished != worth:
                         self.make(("set", place_now(area, path), wished))

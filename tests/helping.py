@@ -1,5 +1,8 @@
 """What several tests use."""
 
+import copy
+import unittest
+
 from sourceback.errors import SourceError
 from sourceback.projects import Project
 
@@ -50,3 +53,15 @@ def marked(text):
     at = text.index("@")
     assert text.count("@") == 1, text
     return text[:at] + text[at + 1:], at
+
+
+class Refusing(unittest.TestCase):
+    """Tests of functions of a project and of any value."""
+
+    def refused(self, error, ask, value):
+        """The function raises this error with the very value, which stays as it is."""
+        before = copy.deepcopy(value)
+        with self.assertRaises(error) as caught:
+            ask(self.project, value)
+        self.assertIs(caught.exception.value, value)
+        self.assertEqual(value, before)

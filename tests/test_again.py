@@ -201,6 +201,8 @@ class Written(unittest.TestCase):
                 following += fresh
                 self.assertEqual((made.serials("main", "goods"), made.next_serial("main", "goods")), (serials, following))
                 self.assertEqual(tuple(serial for serial, _ in labelled(made, "main")[0][1]), serials)
+                # The output is told by the texts alone, whatever the serials are.
+                self.assertEqual(output(made, "main"), output(project(made["main"]), "main"))
 
     def text(self, count, chance):
         items = " ".join(f"{{ p: {chance.randrange(9)} }}" for _ in range(count))

@@ -273,6 +273,7 @@ class Words(Case):
             self.fails((("put", ANN, 0, 3, record),), 0, "kind")
         for record in ((("cards", ()), ("name", "x")), (("name", "x"),), (("name", 1), ("cards", ())), (("name", "x"), ("cards", 3)),
                        (("name", "x"), ("cards", "")), (("name", "x"), ("cards", CARD)), (("name", "x"), ("cards", ((0, ()),))),
+                       (("name", "x"), ("cards", (("a", CARD),))),
                        (("name", "x"), ("cards", ((0, (("title", 1),)),))), (("name", "x"), ("cards", ((0, CARD), (3, (("name", "x"),)))))):
             self.fails((("put", FOLK, 0, 2, record),), 0, "kind")
 

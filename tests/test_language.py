@@ -88,6 +88,28 @@ class Language(unittest.TestCase):
         for name, node in self.nodes(ast.Constant):
             self.assertNotIsInstance(node.value, (float, bytes, complex), name)
 
+    def test_no_name_is_a_method_and_an_attribute_of_one_class(self):
+        for name, node in self.nodes(ast.ClassDef):
+            methods = {part.name for part in node.body if isinstance(part, ast.FunctionDef)}
+            stored = {part.attr for part in ast.walk(node) if isinstance(part, ast.Attribute) and isinstance(part.ctx, ast.Store)}
+            self.assertEqual(methods & stored, set(), (name, node.name))
+
+    def test_generators_have_names_of_their_own(self):
+        named = [node.name for _, node in self.nodes(ast.FunctionDef)]
+        for name, node in self.nodes(ast.FunctionDef):
+            if any(isinstance(part, (ast.Yield, ast.YieldFrom)) for part in ast.walk(node)):
+                self.assertEqual(named.count(node.name), 1, name)
+
+    def test_what_goes_over_many_takes_lists(self):
+        for name, node in self.nodes(ast.GeneratorExp):
+            self.fail((name, node.lineno))
+
+    def test_objects_are_compared_by_is_with_constants_alone(self):
+        for name, node in self.nodes(ast.Compare):
+            for sign, part in zip(node.ops, node.comparators):
+                if isinstance(sign, (ast.Is, ast.IsNot)):
+                    self.assertIsInstance(part, ast.Constant, (name, node.lineno))
+
     def test_decorators_are_properties(self):
         for name, node in self.nodes(ast.FunctionDef):
             self.assertIn([ast.unparse(part) for part in node.decorator_list], ([], ["property"]), name)

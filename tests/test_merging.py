@@ -41,6 +41,12 @@ def rows_of(made, edit):
     return dict(wish_of(made, edit)[1])
 
 
+def keeps(flat):
+    """No row is moved within its rows place."""
+    return all([s for s in flat.start[name] if s in now] == [s for s in now if s in flat.start[name]]
+               for name, (_, now) in flat.named_rows().items())
+
+
 class Changes(unittest.TestCase):
     def check(self, edit, *expected, made=CARDS):
         self.assertEqual(changes(made, edit), expected)
@@ -387,6 +393,8 @@ class Randomly(unittest.TestCase):
             edit = merged(ground.project, one, other)
             self.assertEqual(wish_of(ground.project, edit), both.wish(), (one, other, edit))
             self.once(ground, edit)
+            if all(keeps(flat) for flat in (both.one, both.other)):
+                self.assertEqual([step for step in edit if step[0] == "carry" and step[1] == step[3]], [])
             for name, (_, serials) in both.rows[0].items():
                 if name in both.rows[1] and both.rows[1][name][1] != both.one.start[name] != serials:
                     key = "same tuple" if both.same(name) else "woven"

@@ -1,9 +1,8 @@
 """Point 5: places, levels, definitions, and what is none of these."""
 
-import copy
 import unittest
 
-from helping import ANY, project
+from helping import ANY, Refusing, project
 from sourceback.errors import NoFile, NoPlace, NoSpot
 from sourceback.places import definition, hidden_places, levels, places, rows_places
 from sourceback.values import labelled, output, shown, value_of
@@ -177,18 +176,11 @@ class Definitions(unittest.TestCase):
         self.assertEqual(definition(project=self.project, spot=("lib", "box", ("width",))), ("literal", 40))
 
 
-class Nothing(unittest.TestCase):
+class Nothing(Refusing):
     """Values that are no place, no rows place, no spot."""
 
     def setUp(self):
         self.project = project(MAIN, lib=LIB)
-
-    def refused(self, error, ask, value):
-        before = copy.deepcopy(value)
-        with self.assertRaises(error) as caught:
-            ask(self.project, value)
-        self.assertIs(caught.exception.value, value)
-        self.assertEqual(value, before)
 
     def changed(self, path):
         """Paths that are near this one."""

@@ -1,10 +1,9 @@
 """Point 12: things, their traces, sources and readers."""
 
-import copy
 import types
 import unittest
 
-from helping import ANY, project
+from helping import ANY, Refusing, project
 from randomly import expression_text, literal_text, sound
 from sourceback.errors import NoSpot, NoThing
 from sourceback.places import definition, hidden_places, levels, places, rows_places
@@ -285,16 +284,9 @@ class Steps(unittest.TestCase):
         self.assertEqual(things(project("document { }")), ())
 
 
-class Nothing(unittest.TestCase):
+class Nothing(Refusing):
     def setUp(self):
         self.project = project(MAIN, lib=LIB)
-
-    def refused(self, error, ask, value):
-        before = copy.deepcopy(value)
-        with self.assertRaises(error) as caught:
-            ask(self.project, value)
-        self.assertIs(caught.exception.value, value)
-        self.assertEqual(value, before)
 
     def near(self, values):
         """Values that are near these."""
@@ -324,6 +316,11 @@ class Nothing(unittest.TestCase):
             for ask in (worth, sources, lambda project, value: next(trace(project, value))):
                 self.refused(NoThing, ask, value)
         self.assertGreater(count, 1000)
+
+    def test_rows_without_a_condition(self):
+        for serial in (0, 1, 2):
+            for ask in (worth, sources, lambda project, value: next(trace(project, value))):
+                self.refused(NoThing, ask, ("where", ("main", ("all",)), serial))
 
     def test_no_spot_and_no_list(self):
         spots = [spot for place in places(self.project) + hidden_places(self.project) for spot in levels(self.project, place)]
