@@ -108,8 +108,8 @@ class Weaver:
         """Take the rows that are left over."""
         for stack, rows in self.wanted.items():
             kept = [self.twin(row) for row in rows]
-            for area in [area for area in stack.rows if area not in kept]:
-                self.make(("take", place_now(stack.area, stack.path), area.serial))
+            for left in [area for area in stack.rows if area not in kept]:
+                self.make(("take", place_now(stack.area, stack.path), left.serial))
 
     def set_values(self):
         """Set the values that one of both edits changed."""

@@ -5,6 +5,7 @@ The projects have their visible fields told by hand: a record is a list of (fiel
 """
 
 from helping import project
+from randomly import sound
 from sourceback.values import labelled
 
 
@@ -16,8 +17,8 @@ class Rows:
 class Ground:
     """A project with its visible fields, and for each list the serials and the next one."""
 
-    def __init__(self, files, documents, lists):
-        self.project = project(**files)
+    def __init__(self, made, documents, lists):
+        self.project = made
         self.documents = documents
         self.serials = {key: self.project.serials(*key) for key in lists}
         self.nexts = {key: self.project.next_serial(*key) for key in lists}
@@ -85,17 +86,41 @@ THINGS = Rows(("main", "things"), "thing", THING)
 ROOM = [("n", "number"), ("key", "number"), ("things", THINGS)]
 
 GROUNDS = [
-    Ground({"main": PEOPLE}, {"main": [("people", Rows(("main", "people"), "person", [
+    Ground(project(PEOPLE), {"main": [("people", Rows(("main", "people"), "person", [
         ("name", "text"), ("cards", Rows(("main", "tasks"), "card", [("title", "text")]))]))]},
         [("main", "people"), ("main", "tasks")]),
-    Ground({"lib": LIB, "main": MAIN, "other": OTHER}, {
+    Ground(project(lib=LIB, main=MAIN, other=OTHER), {
         "main": [("teams", Rows(("lib", "teams"), "team", TEAM)), ("all", Rows(TASKS, "card", CARD)), ("loose", PERSONS),
                  ("sum", "number")],
         "other": [("free", Rows(TASKS, "card", CARD)), ("box", PERSON), ("last", NOTE)]},
         [("lib", "teams"), ("lib", "people"), TASKS]),
-    Ground({"main": ROOMS}, {"main": [("rooms", Rows(("main", "rooms"), "room", ROOM)), ("others", THINGS)]},
+    Ground(project(ROOMS), {"main": [("rooms", Rows(("main", "rooms"), "room", ROOM)), ("others", THINGS)]},
            [("main", "rooms"), ("main", "things")]),
 ]
+
+
+def world_grounds():
+    """Those of the worlds by chance that have rows and not too many places."""
+    found = []
+    for world, made, result in sound().worlds:
+        if result.rows and len(result.layers) <= 120:
+            documents = {file: visible(world, owner) for file, owner in world.documents.items()}
+            if any(documents.values()):
+                found.append(Ground(made, documents, list(world.lists)))
+    return found
+
+
+def visible(world, owner):
+    """The visible fields of a document or template of a world."""
+    found = []
+    for name, entry in world.base(owner)["fields"].items():
+        value = entry["value"]
+        if not entry["hidden"]:
+            if value["form"] in ("new", "loop"):
+                kind = visible(world, world.templates[value["template"]])
+                kind = Rows(value["list"], value["template"], kind) if value["form"] == "loop" else kind
+            found.append((name, kind if value["form"] in ("new", "loop") else value["kind"]))
+    return found
 
 
 def good_string(value):
@@ -464,7 +489,7 @@ class Chance:
             return new[items] - 1
         if what < 0.4:
             return self.flat.nexts[items] + self.chance.randrange(3)
-        return self.chance.randrange(self.flat.ground.nexts[items])
+        return self.chance.randrange(self.flat.ground.nexts[items] + 1)
 
     def record(self, record, new):
         found = []

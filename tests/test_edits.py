@@ -4,7 +4,7 @@ import copy
 import random
 import unittest
 
-from editing import GROUNDS, Flat, edit_by_chance
+from editing import GROUNDS, Flat, edit_by_chance, world_grounds
 from helping import ANY, deep, project
 from sourceback.edits import wish_of, wished
 from sourceback.errors import BadEdit, NoFile, StepError
@@ -488,6 +488,21 @@ class Randomly(unittest.TestCase):
                     ("put", "kind"), ("put", "serial"), ("put", "index"), ("carry", "place"), ("carry", "rows"),
                     ("carry", "serial"), ("carry", "index"), 0, 1, 5, 8):
             self.assertGreater(words.get(key, 0), 2, key)
+
+    def test_worlds(self):
+        grounds, made = world_grounds(), 0
+        self.assertGreater(len(grounds), 100)
+        for seed, ground in enumerate(grounds):
+            edit, flat, fault = edit_by_chance(random.Random(seed), ground, 9)
+            if fault is None:
+                made += len(edit)
+                self.assertEqual(wish_of(ground.project, edit), flat.wish(), edit)
+                self.assertEqual(changes(ground.project, edit), flat.changes(), edit)
+                continue
+            with self.assertRaises(StepError) as caught:
+                wish_of(ground.project, edit)
+            self.assertEqual((caught.exception.index, caught.exception.word), fault, edit)
+        self.assertGreater(made, 50)
 
     def test_labelled_wishes(self):
         for seed in range(300):

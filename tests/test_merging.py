@@ -4,7 +4,7 @@ import random
 import types
 import unittest
 
-from editing import GROUNDS, Both, Flat, below, pair_by_chance, sound_edit
+from editing import GROUNDS, Both, Flat, below, pair_by_chance, sound_edit, world_grounds
 from helping import ANY, project
 from sourceback.edits import wish_of, wished
 from sourceback.errors import BadEdit, Clash, StepError
@@ -402,6 +402,14 @@ class Randomly(unittest.TestCase):
         for key in ("value", "row", "rows", ("row", "value"), ("row", "rows"), ("row", "row"), ("rows", "row"), ("value", "row"),
                     "woven", "same tuple"):
             self.assertGreater(seen.get(key, 0), 5, key)
+
+    def test_worlds(self):
+        for seed, ground in enumerate(world_grounds()):
+            (one, flat), (other, second) = pair_by_chance(random.Random(seed), ground)
+            both = Both(ground, flat, second)
+            self.assertEqual(list(clashes(ground.project, one, other)), both.clashes(), (one, other))
+            if not both.clashes():
+                self.assertEqual(wish_of(ground.project, merged(ground.project, one, other)), both.wish(), (one, other))
 
     def test_with_nothing(self):
         for seed in range(300):
