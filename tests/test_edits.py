@@ -75,6 +75,13 @@ class Steps(Case):
         self.leaves((("take", FOLK, 0),), (1, "Bob", (1, "b")))
         self.leaves((("take", ANN, 0), ("take", ANN, 2), ("take", FOLK, 1)), (0, "Ann"))
 
+    def test_take_rows_that_were_carried(self):
+        self.leaves((("carry", ANN, 2, BOB, 0), ("take", BOB, 2)), (0, "Ann", (0, "a")), (1, "Bob", (1, "b")))
+        self.leaves((("carry", ANN, 0, ANN, 1), ("carry", ANN, 0, ANN, 0), ("take", ANN, 0)), (0, "Ann", (2, "c")), (1, "Bob", (1, "b")))
+        self.leaves((("carry", ANN, 2, BOB, 0), ("take", FOLK, 1)), (0, "Ann", (0, "a")))
+        self.fails((("carry", ANN, 2, BOB, 0), ("take", BOB, 2), ("put", ANN, 0, 2, CARD)), 2, "serial")
+        self.fails((("carry", ANN, 2, BOB, 0), ("take", BOB, 2), ("put", BOB, 0, 2, CARD)), 2, "serial")
+
     def test_put_a_new_item(self):
         for index, rows in ((0, [(3, "new"), (0, "a"), (2, "c")]), (1, [(0, "a"), (3, "new"), (2, "c")]),
                             (2, [(0, "a"), (2, "c"), (3, "new")])):
