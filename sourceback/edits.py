@@ -2,6 +2,7 @@
 
 from sourceback.errors import BadEdit, NoFile
 from sourceback.outputs import Outputs
+from sourceback.shapes import are_pairs, is_count, is_part, is_place
 
 # What the steps have behind their word.
 PARTS = {
@@ -56,24 +57,7 @@ def has_form(form, value):
         return is_place(value)
     if form == "count":
         return is_count(value)
-    return is_worth(value) if form == "worth" else is_record(value)
-
-
-def is_place(value):
-    """Tell whether any value has the form of a place or rows place."""
-    if not isinstance(value, tuple) or len(value) != 2 or not isinstance(value[0], str):
-        return False
-    return isinstance(value[1], tuple) and all([isinstance(part, str) or is_count(part) for part in value[1]])
-
-
-def is_count(value):
-    """Tell whether any value is an integer from 0."""
-    return isinstance(value, int) and not isinstance(value, bool) and value >= 0
-
-
-def is_worth(value):
-    """Tell whether any value is an integer or a string."""
-    return isinstance(value, (int, str)) and not isinstance(value, bool)
+    return is_part(value) if form == "worth" else is_record(value)
 
 
 def is_record(value):
@@ -83,14 +67,9 @@ def is_record(value):
 
 def is_content(value):
     """Tell whether any value has the form of the value of a field."""
-    return is_worth(value) or is_record(value) or are_rows(value)
+    return is_part(value) or is_record(value) or are_rows(value)
 
 
 def are_rows(value):
     """Tell whether any value has the form of labelled rows."""
     return are_pairs(value) and all([is_count(serial) and is_record(part) for serial, part in value])
-
-
-def are_pairs(value):
-    """Tell whether any value is a tuple of tuples of two."""
-    return isinstance(value, tuple) and all([isinstance(pair, tuple) and len(pair) == 2 for pair in value])

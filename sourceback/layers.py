@@ -65,8 +65,12 @@ def pattern_of(path):
 
 def levels_of(sources, file, pattern):
     """The levels of the places with this pattern, the outermost one first."""
+    return levels_from(sources, sources.trees[file].document, pattern)
+
+
+def levels_from(sources, owner, pattern):
+    """The levels of that to which a path leads from an owner, the outermost one first."""
     found = []
-    owner = sources.trees[file].document
     home = 0
     while True:
         path = pattern[home:]

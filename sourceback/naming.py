@@ -68,7 +68,7 @@ def bodies_in(body):
 def hiding_loops(body):
     """The names of loops that are fields of the body in which the loops stand."""
     loops = [entry.value for entry in body.entries if isinstance(entry.value, Loop)]
-    return [loop.mark.index for loop in loops if loop.mark.name in body.named]
+    return [loop.item.index for loop in loops if loop.item.name in body.named]
 
 
 def name_faults(sources, tree):

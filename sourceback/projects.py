@@ -69,6 +69,10 @@ class Project:
         """Tell whether any values are a file and a list in it."""
         return isinstance(file, str) and isinstance(name, str) and (file, name) in self._serials
 
+    def lists(self):
+        """The (file, list) of all lists, ascending."""
+        return sorted(list(self._serials))
+
     def written(self, name, text):
         """The project with another text for a file, or without it if the text is None."""
         if text is None and name not in self:
@@ -92,6 +96,14 @@ class Project:
                 end = begin + count - len(kept)
                 self._serials[(file, name)] = kept + tuple(range(begin, end))
                 self._nexts[(file, name)] = end
+
+
+def numbered(files, serials, nexts):
+    """The project of some files, with the serials and next serials of its lists by (file, list)."""
+    project = Project(files)
+    project._serials = {key: tuple(serials[key]) for key in serials}
+    project._nexts = {key: nexts[key] for key in nexts}
+    return project
 
 
 def are_files(value):

@@ -1,6 +1,7 @@
 """Working out values, and finding the places that there are."""
 
 from sourceback.layers import first_told, pattern_of, reads_at
+from sourceback.shapes import is_part
 from sourceback.sources import reads_item
 from sourceback.trees import Choice, Literal, Loop, Record, paths_of
 
@@ -19,13 +20,15 @@ class Reading:
     def worth_at(self, file, path):
         """The value of a place."""
         # Not by recursion: a value may be read over hundreds of others.
-        waiting = [] if (file, path) in self.told else [path]
+        waiting = [path]
         while waiting:
-            missing = self.missing(file, waiting[-1])
+            missing = [] if (file, waiting[-1]) in self.told else self.missing(file, waiting[-1])
             if missing:
                 waiting += missing
-            else:
-                ready = waiting.pop()
+                continue
+            ready = waiting.pop()
+            # What is read twice waits twice, but is worked out once.
+            if (file, ready) not in self.told:
                 self.told[(file, ready)] = self.reckoned(file, ready)
         return self.told[(file, path)]
 
@@ -49,10 +52,10 @@ class Reading:
         if isinstance(value, Literal):
             return value.worth
         if value.alone:
-            return self.read(file, path, level, value.terms[0].path)
+            return self.worth_read(file, path, level, value.terms[0].path)
         total = 0
         for term in value.terms:
-            total += term.factor * (1 if term.path is None else self.read(file, path, level, term.path))
+            total += term.factor * (1 if term.path is None else self.worth_read(file, path, level, term.path))
         return total
 
     def side(self, file, path, level):
@@ -61,9 +64,9 @@ class Reading:
 
     def is_same(self, file, path, level):
         """Tell whether what a choice compares is equal to its literal, when it has a value."""
-        return self.read(file, path, level, level.value.path) == level.value.literal.worth
+        return self.worth_read(file, path, level, level.value.path) == level.value.literal.worth
 
-    def read(self, file, path, level, read):
+    def worth_read(self, file, path, level, read):
         """What a path reads at a level of a place."""
         if reads_item(level.loop, read):
             return self.item_worth(level.stock, path[level.home + 1], read.parts[1])
@@ -160,8 +163,3 @@ def is_spelled(sources, value):
     if not isinstance(file, str) or file not in sources.trees or sources.trees[file].document is None:
         return False
     return isinstance(path, tuple) and all([is_part(part) for part in path])
-
-
-def is_part(value):
-    """Tell whether any value is a string or an integer."""
-    return isinstance(value, (str, int)) and not isinstance(value, bool)

@@ -124,7 +124,7 @@ def body_within(sources, given):
 
 def reads_item(loop, path):
     """Tell whether a path in a body begins at the item of the loop around it."""
-    return loop is not None and path.parts[0] == loop.mark.name
+    return loop is not None and path.parts[0] == loop.item.name
 
 
 def item_kind(sources, owner, loop, path):

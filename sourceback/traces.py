@@ -2,9 +2,10 @@
 
 from sourceback.errors import NoSpot, NoThing
 from sourceback.layers import is_expression, pattern_of
-from sourceback.places import is_spot
-from sourceback.reading import Reading, all_found, found_at, is_part
+from sourceback.reading import Reading, all_found, found_at
+from sourceback.shapes import is_part
 from sourceback.sources import reads_item
+from sourceback.spots import is_spot
 from sourceback.trees import Choice, paths_of, right_paths
 
 
@@ -132,7 +133,7 @@ def value_steps(reading, file, path):
     # Levels behind the one that tells the value are not looked at.
     for level in reading.sources.layers[(file, pattern_of(path))]:
         if is_expression(level.value):
-            steps.append(("expression", level.spot, level.value.text))
+            steps.append(("expression", level.spot, level.value.words))
             return steps + expression_steps(reading, file, path, level)
         if level.value is not None:
             steps.append(("literal", level.spot, level.value.worth))
@@ -146,8 +147,9 @@ def expression_steps(reading, file, path, level):
     reads = paths_of(level.value)
     ahead = []
     if isinstance(level.value, Choice):
-        # Working out the value first gives all values that the choice compares and reads.
-        reading.worth_at(file, path)
+        # Not the value itself, which may be what these steps are asked for.
+        for missing in reading.missing(file, path):
+            reading.worth_at(file, missing)
         way = ("way", reading.is_same(file, path, level))
         ahead = [read_step(reading, file, path, level, level.value.path), way]
         reads = paths_of(reading.side(file, path, level))
@@ -174,7 +176,7 @@ def place_step(reading, file, path):
 def where_steps(reading, file, path, serial):
     """The steps of a condition."""
     loop, stock = reading.loop_at(file, path)
-    steps = [("where", loop.where.text), item_step(reading, stock, serial, loop.where.left.parts[1])]
+    steps = [("where", loop.where.words), item_step(reading, stock, serial, loop.where.left.parts[1])]
     return steps + [place_step(reading, file, path[:-1] + right.parts) for right in right_paths(loop.where)]
 
 

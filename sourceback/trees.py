@@ -110,9 +110,9 @@ class Term:
 class Sum:
     """Terms that are added; a copy if it is one path alone."""
 
-    def __init__(self, index, text, terms, alone):
+    def __init__(self, index, words, terms, alone):
         self.index = index
-        self.text = text
+        self.words = words
         self.terms = terms
         self.alone = alone
 
@@ -124,9 +124,9 @@ class Sum:
 class Choice:
     """A path that is compared with a literal, and the two sides."""
 
-    def __init__(self, index, text, compared, sides):
+    def __init__(self, index, words, compared, sides):
         self.index = index
-        self.text = text
+        self.words = words
         self.path, self.literal = compared
         self.sides = sides
 
@@ -149,8 +149,8 @@ class Record:
 class Loop:
     """Rows: a name for the item, a list, a condition or None, a template, a body or None."""
 
-    def __init__(self, mark, stock, where, record):
-        self.mark = mark
+    def __init__(self, item, stock, where, record):
+        self.item = item
         self.stock = stock
         self.where = where
         self.template = record.template
@@ -160,8 +160,8 @@ class Loop:
 class Where:
     """A path to a field of the item, and a literal or a path."""
 
-    def __init__(self, text, left, right):
-        self.text = text
+    def __init__(self, words, left, right):
+        self.words = words
         self.left = left
         self.right = right
 

@@ -55,6 +55,22 @@ def marked(text):
     return text[:at] + text[at + 1:], at
 
 
+def spaced(parts, chance):
+    """A text with these tokens and any gaps between, and the index of each token."""
+    text, starts = "", []
+    for part in parts + [""]:
+        gaps = [" ", "\n", "  ", " # a remark: { \" }\n", "#\n"]
+        before, after = text[-1:], part[:1]
+        if not text or not (before.isalnum() and after.isalnum()):
+            gaps.append("")
+        text += "".join(chance.choice(gaps) for _ in range(chance.randrange(1, 3)))
+        if text and text[-1].isalnum() and after.isalnum():
+            text += " "
+        starts.append(len(text))
+        text += part
+    return text, starts
+
+
 class Refusing(unittest.TestCase):
     """Tests of functions of a project and of any value."""
 

@@ -3,7 +3,7 @@
 import random
 import unittest
 
-from helping import fault, marked, project
+from helping import fault, marked, project, spaced
 from randomly import sound
 from sourceback.files import tokens
 from sourceback.places import definition, hidden_places, levels, places, rows_places
@@ -20,22 +20,6 @@ FAULTS = [
     'document { n: 1 a: if n = @"" then 1 else 2 }', "list l (p: number) [ { p: 1 } @{ } ]",
     "template t { a: 1 } @document { a: b b: 2 * a }",
 ]
-
-
-def spaced(parts, chance):
-    """A text with these tokens and any gaps between, and the index of each token."""
-    text, starts = "", []
-    for part in parts + [""]:
-        gaps = [" ", "\n", "  ", " # a remark: { \" }\n", "#\n"]
-        before, after = text[-1:], part[:1]
-        if not text or not (before.isalnum() and after.isalnum()):
-            gaps.append("")
-        text += "".join(chance.choice(gaps) for _ in range(chance.randrange(1, 3)))
-        if text and text[-1].isalnum() and after.isalnum():
-            text += " "
-        starts.append(len(text))
-        text += part
-    return text, starts
 
 
 class Gaps(unittest.TestCase):

@@ -4,8 +4,6 @@ import importlib
 import inspect
 import unittest
 
-from sourceback.projects import Project
-
 FUNCTIONS = {
     "files": {"is_name": ["value"], "tokens": ["text"]},
     "places": {"places": ["project"], "hidden_places": ["project"], "rows_places": ["project"],
@@ -16,13 +14,20 @@ FUNCTIONS = {
     "merging": {"changes": ["project", "edit"], "clashes": ["project", "one", "other"], "merged": ["project", "one", "other"]},
     "traces": {"things": ["project"], "worth": ["project", "thing"], "trace": ["project", "thing"],
                "sources": ["project", "thing"], "readers": ["project", "value"]},
+    "plans": {"is_plan": ["project", "value", "locked"], "made": ["project", "plan"], "cost_of": ["project", "plan", "costs"]},
+    "rows": {"going": ["project", "edit", "locked"], "coming": ["project", "edit"], "moves": ["old", "new"],
+             "chains": ["project", "edit", "locked"], "shows_chains": ["project", "edit", "value", "locked"]},
+    "texts": {"show_edit": ["edit"], "read_edit": ["text"], "show_plan": ["plan"], "read_plan": ["text"], "show_output": ["project", "file"]},
 }
-METHODS = {"__init__": ["self", "files"], "serials": ["self", "file", "name"], "next_serial": ["self", "file", "name"],
-           "written": ["self", "name", "text"]}
-SIGNS = ("__getitem__", "__contains__", "__len__", "__eq__")
-PROPERTIES = ("files", "names", "documents")
-
-
+# The methods of classes with their arguments, the signs, the properties.
+CLASSES = {
+    ("projects", "Project"): (
+        {"__init__": ["self", "files"], "serials": ["self", "file", "name"], "next_serial": ["self", "file", "name"], "written": ["self", "name", "text"]},
+        ("__getitem__", "__contains__", "__len__", "__eq__"), ("files", "names", "documents")),
+    ("kept", "Kept"): (
+        {"__init__": ["self", "project"], "changed": ["self", "plan"], "rewritten": ["self", "name", "text"]},
+        ("__getitem__", "__len__"), ("project", "worked")),
+}
 GENERATORS = {"tokens", "clashes", "trace"}
 
 
@@ -37,18 +42,21 @@ class Interface(unittest.TestCase):
                 self.assertEqual(list(inspect.signature(function).parameters), arguments)
                 self.assertEqual(inspect.isgeneratorfunction(function), name in GENERATORS, name)
 
-    def test_project(self):
-        self.assertEqual(Project.__module__, "sourceback.projects")
-        for name, arguments in METHODS.items():
-            self.assertEqual(list(inspect.signature(vars(Project)[name]).parameters), arguments)
-        for name in SIGNS + PROPERTIES:
-            self.assertIn(name, vars(Project))
+                for argument in inspect.signature(function).parameters.values():
+                    behind = {"locked": argument.KEYWORD_ONLY, "costs": argument.VAR_KEYWORD}
+                    self.assertEqual(argument.kind, behind.get(argument.name, argument.POSITIONAL_OR_KEYWORD), name)
 
-    def test_properties_cannot_be_assigned(self):
-        project = Project((("main", ""),))
-        for name in PROPERTIES:
-            with self.assertRaises(AttributeError):
-                setattr(project, name, ())
+    def test_classes(self):
+        for (module, name), (methods, signs, properties) in CLASSES.items():
+            found = getattr(importlib.import_module("sourceback." + module), name)
+            self.assertEqual(found.__module__, "sourceback." + module)
+            for method, arguments in methods.items():
+                self.assertEqual(list(inspect.signature(vars(found)[method]).parameters), arguments)
+            for part in signs + properties:
+                self.assertIn(part, vars(found))
+            for part in properties:
+                self.assertIsInstance(vars(found)[part], property)
+                self.assertIsNone(vars(found)[part].fset)
 
 
 if __name__ == "__main__":

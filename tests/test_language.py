@@ -10,7 +10,7 @@ BUILTINS = {
     "list", "tuple", "dict", "set", "isinstance", "ord", "any", "all", "divmod", "repr", "map",
     "ValueError", "TypeError", "KeyError", "property",
 }
-NOT_USED = {"register", "mro", "elements", "open", "input", "law", "type", "id", "dir", "eval", "exec", "vars", "super"}
+NOT_USED = {"register", "mro", "elements", "open", "input", "law", "type", "id", "dir", "eval", "exec", "vars"}
 
 
 class Language(unittest.TestCase):
