@@ -10,23 +10,20 @@ from sourceback.trees import Loop, Record
 class Area:
     """A document or a row: its numbers and strings and its stacks, by their paths within it.
 
-    serial is None for a document. origin is the stack in which a row stood in the project, None if
-    it was put in; stack is the one in which it is now.
+    serial is None for a document. name is the (file, path) at which it stood in the project, None for a
+    row that was put in; stack is the one in which a row is now.
     """
 
-    def __init__(self, base, serial, stack, origin):
+    def __init__(self, base, serial, stack, name):
         self.base = base
         self.serial = serial
         self.stack = stack
-        self.origin = origin
+        self.name = name
         self.worths = {}
         self.stacks = {}
-        # The paths of the values that a step set.
+        # Whether this edit put it in, and the paths of the values that it set.
+        self.fresh = name is None
         self.renewed = {}
-
-    def was_put(self):
-        """Tell whether this is a row that was put in."""
-        return self.serial is not None and self.origin is None
 
     def is_within(self, row):
         """Tell whether this is a row, or within it; never if the row is None."""
@@ -75,13 +72,13 @@ class Filler:
 
     def make_document(self, owner, record):
         """The area of a document."""
-        area = Area(owner, None, None, None)
+        area = Area(owner, None, None, (owner.file, ()))
         self.fill(area, owner, (), record)
         return area
 
     def make_row(self, stack, serial, record):
         """The area of a row, which is not put in among the rows yet."""
-        area = Area(stack.base, serial, stack, None if self.is_put else stack)
+        area = Area(stack.base, serial, stack, None if self.is_put else name_of(stack.area, stack.path + (serial,)))
         self.fill(area, stack.base, (), record)
         return area
 
@@ -130,17 +127,16 @@ def place_now(area, path):
 
 def name_of(area, path):
     """The place to which a path within an area led in the project, None within a row that was put in."""
-    while area.serial is not None:
-        if area.origin is None:
-            return None
-        path = area.origin.path + (area.serial,) + path
-        area = area.origin.area
-    return (area.base.file, path)
+    if area.name is None:
+        return None
+    file, around = area.name
+    return (file, around + path)
 
 
 def row_name(row):
     """The (rows place, serial) by which a row of the project is named."""
-    return (name_of(row.origin.area, row.origin.path), row.serial)
+    file, path = row.name
+    return ((file, path[:-1]), row.serial)
 
 
 def record_now(sources, area, base, path, with_rows):

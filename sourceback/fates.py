@@ -17,7 +17,7 @@ class Named:
         self.worths = {}
         self.stacks = {}
         for area in outputs.areas():
-            if not area.was_put():
+            if area.name is not None:
                 self.add_area(area)
 
     def add_area(self, area):
@@ -34,7 +34,8 @@ class Named:
         row = self.rows.get(name)
         if row is None:
             return None if [outer for outer in rows_around(name[0]) if outer not in self.rows] else TAKEN
-        return STAYS if row.stack == row.origin else ("carried", name_of(row.stack.area, row.stack.path))
+        place = name_of(row.stack.area, row.stack.path)
+        return STAYS if place == name[0] else ("carried", place)
 
     def changes(self, before):
         """What is another one than in the outputs of the project, ascending."""

@@ -1,6 +1,5 @@
 """Where two edits of one project clash, and what they wish together if they do not."""
 
-from sourceback.areas import row_name
 from sourceback.fates import UNNAMED, TAKEN, rows_around
 
 
@@ -47,9 +46,9 @@ class Meeting:
 
     def same_row(self, one, other):
         """Tell whether two rows have one name, or were both put in with the same in them."""
-        if one.was_put() or other.was_put():
-            return one.was_put() and other.was_put() and self.same_within(one, other)
-        return row_name(one) == row_name(other)
+        if one.name is None and other.name is None:
+            return self.same_within(one, other)
+        return one.name == other.name
 
     def same_within(self, one, other):
         """Tell whether two rows of one template have the same values and rows."""

@@ -27,7 +27,9 @@ def merged(project, one, other):
     if pairs:
         first, second = pairs[0]
         raise Clash(first, second)
-    return Weaver(project, meeting).edit()
+    outputs = Outputs(project)
+    names = {area: area.name for area in outputs.areas()}
+    return Weaver(outputs, names, meeting).edit([meeting.one, meeting.other])
 
 
 def meeting_of(project, one, other):

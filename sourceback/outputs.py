@@ -27,6 +27,18 @@ class Outputs:
         self.puts = []
         self.done = 0
 
+    def begin(self, project):
+        """Let another edit begin, when these are the outputs of a project that was led back."""
+        self.stored = project
+        self.nexts = {}
+        self.puts = []
+        self.done = 0
+        for area in self.areas():
+            area.fresh = False
+            area.renewed = {}
+            for stack in area.stacks.values():
+                stack.gone = {}
+
     def make(self, step):
         """Make a step; raises StepError."""
         word = self.hindrance(step)
@@ -51,7 +63,7 @@ class Outputs:
             return "place"
         if not fits_kind("number" if isinstance(area.worths[path], int) else "text", value):
             return "kind"
-        if area.was_put() or path in area.renewed:
+        if area.fresh or path in area.renewed:
             return "twice"
         area.worths[path] = value
         area.renewed[path] = True
@@ -63,7 +75,7 @@ class Outputs:
         if stack is None:
             return "place"
         row = stack.row_at(serial)
-        if row is None or any([inner.was_put() for inner in rows_within(row)]):
+        if row is None or any([inner.fresh for inner in rows_within(row)]):
             return "serial"
         self.send_off(row)
         return None
@@ -94,7 +106,7 @@ class Outputs:
             return "place"
         if (stack.stock, stack.template) != (other.stock, other.template):
             return "rows"
-        if row is None or row.was_put() or (stack != other and not other.lets_in(row.serial)):
+        if row is None or row.fresh or (stack != other and not other.lets_in(row.serial)):
             return "serial"
         if index > len(other.rows) - (1 if stack == other else 0):
             return "index"

@@ -39,9 +39,9 @@ def shows_chains(project, edit, value, *, locked=()):
 
 def ordered(wish):
     """A wish in which no item stands ahead of itself; raises Refused for one in which some do."""
-    circle = wish.first_circle()
-    if circle is not None:
-        raise Refused("order", circle)
+    circling = wish.circling()
+    if circling is not None:
+        raise Refused("order", circling.circle())
     return wish
 
 
@@ -71,7 +71,7 @@ def shows_few(items, value):
     if not isinstance(value, tuple) or not all([is_chain(items, chain) for chain in value]):
         return False
     serials = [serial for chain, _ in value for serial in chain]
-    if sorted(serials) != sorted(items.staying) or len(value) != len(items.kept()):
+    if sorted(serials) != sorted(items.staying) or len(value) != len(items.keeping()):
         return False
     return [chain for chain, _ in value] == sorted([chain for chain, _ in value])
 
@@ -103,3 +103,10 @@ def is_road(items, value, start, end):
 def are_links(value):
     """Tell whether any value is a tuple of pairs of a serial and what has the form of a place."""
     return are_pairs(value) and all([is_serial(serial) and is_place(place) for serial, place in value])
+
+
+def is_circle(items, value):
+    """Tell whether any value is a shortest circle of the items of a list."""
+    if not are_links(value) or len(value) != len(items.circle()):
+        return False
+    return items.is_road(value, value[0][0])

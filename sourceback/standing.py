@@ -84,7 +84,7 @@ class Items:
             found.append((tuple(serials), tuple(roads)))
         return tuple(sorted(found))
 
-    def kept(self):
+    def keeping(self):
         """The items that keep their order, as many as can, in the order of the list."""
         return Pairing(self.above).apart()
 
@@ -94,7 +94,7 @@ class Items:
         for serial, others in self.links.items():
             for other in others:
                 ahead[other].append(serial)
-        kept = self.kept()
+        kept = self.keeping()
         for at in range(1, len(kept)):
             ahead[kept[at]].append(kept[at - 1])
         left = self.arriving + self.staying

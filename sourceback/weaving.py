@@ -1,37 +1,37 @@
 """The steps of a merged edit."""
 
-from sourceback.areas import name_of, place_now, record_now, row_name
-from sourceback.outputs import Outputs
+from sourceback.areas import place_now, record_now
 
 
 class Weaver:
-    """Finds steps with the wish of a merged edit by making them, one behind the other.
+    """Finds steps with the wish of a merged edit by making them, one behind the other, in some outputs.
 
-    Rows are put in first, each by itself and those of the one edit ahead of those of the other, so
-    that new items come in the order of their serials. Then rows are carried, each behind what is in
-    order already. What is then left over is taken, and values are set at last.
+    Rows are put in first, each by itself, so that new items come in the order of their serials. Then rows are
+    carried, each behind what is in order already. What is then left over is taken, and values are set at last.
     A row that two edits leave is known by its area there; its twin is its area in the outputs here.
     """
 
-    def __init__(self, project, meeting):
+    def __init__(self, outputs, names, meeting):
         self.meeting = meeting
-        self.outputs = Outputs(project)
-        self.rows = {row_name(area): area for area in self.outputs.areas() if area.serial is not None}
+        self.outputs = outputs
+        # The names of the areas here that have one, and these areas by their names.
+        self.known = names
+        self.named = {name: area for area, name in names.items()}
+        # The twins of rows without a name.
         self.twins = {}
         # The rows that are wished in each stack, and the twins that are in order there.
         self.wanted = {}
         self.settled = {}
         self.steps = []
 
-    def edit(self):
-        """The merged edit."""
-        for area in self.outputs.areas():
-            for path, stack in area.stacks.items():
-                name = name_of(area, path)
-                if self.meeting.stays(name):
-                    self.want(stack, self.meeting.rows_at(name))
-        self.put_rows(self.meeting.one)
-        self.put_rows(self.meeting.other)
+    def edit(self, sides):
+        """The edit, for which the rows that are put in come from some of the sides."""
+        for area, (file, path) in self.known.items():
+            for within, stack in area.stacks.items():
+                if self.meeting.stays((file, path + within)):
+                    self.want(stack, self.meeting.rows_at((file, path + within)))
+        for side in sides:
+            self.put_rows(side)
         self.carry_rows()
         self.take_rows()
         self.set_values()
@@ -44,9 +44,7 @@ class Weaver:
 
     def twin(self, area):
         """The area here of a document or row that an edit leaves, None if it is not put in yet."""
-        if area.serial is None:
-            return self.outputs.sheets[area.base.file]
-        return self.twins.get(area) if area.was_put() else self.rows[row_name(area)]
+        return self.twins.get(area) if area.name is None else self.named[area.name]
 
     def want(self, stack, rows):
         """Wish rows in a stack; those that can keep their places are in order."""
@@ -69,18 +67,18 @@ class Weaver:
                 index = others.index(self.twin(ahead)) + 1
         return index
 
-    def put_rows(self, named):
+    def put_rows(self, side):
         """Put in the rows that one of both edits puts in."""
-        for row in list(named.outputs.puts):
+        for row in list(side.outputs.puts):
             around = self.twin(row.stack.area)
             # Where both edits put in the very same rows, only those of the one come.
             if around is not None and row in self.wanted[around.stacks[row.stack.path]]:
-                self.add_row(around.stacks[row.stack.path], row, self.serial_of(named, row))
+                self.add_row(around.stacks[row.stack.path], row, self.serial_of(side, row))
 
-    def serial_of(self, named, row):
+    def serial_of(self, side, row):
         """The serial that a row of one of both edits gets."""
         is_new = self.meeting.is_new(row.stack, row.serial)
-        return row.serial + (self.meeting.shift(row.stack) if is_new and named == self.meeting.other else 0)
+        return row.serial + (self.meeting.shift(row.stack) if is_new and side == self.meeting.other else 0)
 
     def add_row(self, stack, row, serial):
         """Put in a row, without those in it."""
@@ -114,8 +112,9 @@ class Weaver:
     def set_values(self):
         """Set the values that one of both edits changed."""
         for area in self.outputs.areas():
-            if not area.was_put():
+            if area in self.known:
+                file, around = self.known[area]
                 for path, worth in list(area.worths.items()):
-                    wished = self.meeting.wished_at(name_of(area, path))
+                    wished = self.meeting.wished_at((file, around + path))
                     if wished != worth:
                         self.make(("set", place_now(area, path), wished))

@@ -57,16 +57,19 @@ class Wish:
         for (file, name), items in self.standings.items():
             if file in self.locked and (items.arriving or items.has_clash() or items.circle() is not None):
                 return ("locked", (file, name))
-        circle = self.first_circle()
-        if circle is not None:
-            return ("order", circle)
+        circling = self.circling()
+        if circling is not None:
+            return ("order", circling.circle())
         missing = self.first_missing()
         return None if missing is None else ("shown", missing)
 
-    def first_circle(self):
-        """A shortest circle of the first list that has one, or None."""
-        circles = [items.circle() for items in self.standings.values()]
-        found = [circle for circle in circles if circle is not None]
+    def new_orders(self):
+        """The new orders of the lists that change, by (file, list)."""
+        return {key: items.order() for key, items in self.standings.items() if items.is_changed()}
+
+    def circling(self):
+        """The Items of the first list of which one stands ahead of itself, or None."""
+        found = [items for items in self.standings.values() if items.circle() is not None]
         return found[0] if found else None
 
     def first_missing(self):

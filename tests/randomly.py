@@ -331,7 +331,7 @@ class Output:
                 inner, within = self.inner(value, name, further, layers, False, None)
                 tree = self.walk(file, inner, further, within, veiled)
             elif value["form"] == "loop":
-                shown = self.shown(file, value, path)
+                shown = self.shown(file, value, path, name)
                 self.rows[(file, further)] = (veiled, shown)
                 self.loops[(file, further)] = value
                 tree = []
@@ -346,7 +346,7 @@ class Output:
             found.append((name, entry["hidden"], tree))
         return found
 
-    def shown(self, file, loop, path):
+    def shown(self, file, loop, path, name):
         items = self.world.lists[loop["list"]]["items"]
         if self.pseudo:
             return (0,)

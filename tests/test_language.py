@@ -42,7 +42,11 @@ class Language(unittest.TestCase):
         self.assertEqual(list(self.nodes(ast.Import)), [])
         for name, node in self.nodes(ast.ImportFrom):
             package, _, module = node.module.partition(".")
-            self.assertEqual((package, node.level), ("sourceback", 0), name)
+            self.assertEqual(node.level, 0, name)
+            if package == "math":
+                self.assertEqual([(alias.name, alias.asname) for alias in node.names], [("gcd", None)])
+                continue
+            self.assertEqual(package, "sourceback", name)
             defined = {getattr(part, "name", None) for part in self.trees[module + ".py"].body}
             for part in self.trees[module + ".py"].body:
                 if isinstance(part, ast.Assign):
@@ -63,7 +67,8 @@ class Language(unittest.TestCase):
     def test_no_file_leads_back_to_itself(self):
         uses = {name: set() for name in self.trees}
         for name, node in self.nodes(ast.ImportFrom):
-            uses[name].add(node.module.partition(".")[2] + ".py")
+            if node.module != "math":
+                uses[name].add(node.module.partition(".")[2] + ".py")
         left = set(uses)
         while left:
             free = {name for name in left if not uses[name] & left}
@@ -110,9 +115,9 @@ class Language(unittest.TestCase):
                 if isinstance(sign, (ast.Is, ast.IsNot)):
                     self.assertIsInstance(part, ast.Constant, (name, node.lineno))
 
-    def test_decorators_are_properties(self):
+    def test_decorators_are_those_of_methods(self):
         for name, node in self.nodes(ast.FunctionDef):
-            self.assertIn([ast.unparse(part) for part in node.decorator_list], ([], ["property"]), name)
+            self.assertIn([ast.unparse(part) for part in node.decorator_list], ([], ["property"], ["classmethod"]), name)
         for name, node in self.nodes(ast.ClassDef):
             self.assertEqual(node.decorator_list, [])
 
