@@ -21,6 +21,7 @@ class Wished(Output):
         for key, table in world.lists.items():
             for column, kind in table["columns"].items():
                 self.kind_of[key + (column,)] = kind
+        self.known_ways = None
         super().__init__(world, pseudo=False)
 
     def walk(self, file, base, path, layers, hidden):
@@ -167,7 +168,9 @@ class Wished(Output):
 
     def all_ways(self):
         """The (key, literal) that choices compare if the wish does not tell the way, of each place the outermost expression."""
-        found = set()
+        if self.known_ways is not None:
+            return self.known_ways
+        found = self.known_ways = set()
         for (file, path), layers in self.layers.items():
             shut = [(layer, layer.get(path[-1])) for layer in layers if layer.get(path[-1]) and layer.get(path[-1])["form"] != "literal"]
             if shut and shut[0][1]["form"] == "choice":
