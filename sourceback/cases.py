@@ -1,93 +1,170 @@
 """Trees for demands that hang together, and the selections that cost least for them."""
 
+from sourceback.bans import LEFT, Bans
 from sourceback.forms import Forms
-from sourceback.refuting import System, letters_in
-
-LEFT = "out"
+from sourceback.refuting import System, loose_names, names_in_leaf
 
 
 class Case:
     """Some demands of a ground, by their names, and the prices of spots: of a set, and of a gone or None.
 
-    It goes through all selections, spot by spot and way by way. chosen and ways tell what was decided
-    on the way, cost what that costs. Nothing that costs the bound or more is looked at; found has the selections
-    that can do it, and every tells whether to go on behind the first one.
+    It goes through what may be decided, spot by spot and way by way. What cannot be is kept as bans, which tell
+    at other places, too, what must change, and what that costs at least. Nothing that costs the limit or more is
+    looked at; found has what can do it, and every tells whether to go on behind the first one.
     """
 
     def __init__(self, ground, names, prices):
         self.ground = ground
         self.demands = {name: ground.demands[name] for name in names}
-        self.prices = prices
-        self.chosen = {}
-        self.ways = {}
-        self.cost = 0
-        self.bound = None
+        self.bans = Bans(questions_about(ground, names, prices), prices)
+        self.limit = None
         self.every = False
         self.found = []
-        # What was decided where the bound was met costs this.
+        # What it costs at least to go on where the limit was met.
         self.cuts = []
-        # A selection with the least cost, the ways with it, this cost, and the tree that shows it; if
-        # there is none, the tree shows that.
+        # What was decided for a selection with the least cost, this cost, and the tree that shows it; if there
+        # is none, the tree shows that.
         self.best = None
-        self.best_ways = {}
         self.least = 0
         self.shown = None
 
     def work(self):
         """Find a selection with the least cost, or that there is none."""
-        self.shown = self.begin(None, False)
+        self.begin(None, False)
         if not self.found:
+            self.shown = self.tree(self.bans.start)
             return
-        self.best, self.best_ways, most = self.found[0]
-        self.shown = ("cost",)
-        while self.least < most:
-            tree = self.begin(self.least + 1, False)
+        self.best = self.found[0]
+        while self.least < self.best.cost:
+            self.begin(self.least + 1, False)
             if self.found:
-                self.best, self.best_ways, _ = self.found[0]
-                return
-            self.shown = tree
-            self.least = min(self.cuts)
+                self.best = self.found[0]
+            else:
+                self.least = min(self.cuts)
+        self.limit = self.least
+        self.shown = self.tree(self.bans.start)
 
     def all_best(self):
         """All selections with the least cost, each once."""
         self.begin(self.least + 1, True)
-        return sorted(list({selection: True for selection, _, _ in self.found}))
+        return sorted(list({stand.selection(): True for stand in self.found}))
 
-    def begin(self, bound, every):
-        """Start again with a bound."""
-        self.bound = bound
+    def begin(self, limit, every):
+        """Start again with a limit."""
+        self.limit = limit
         self.every = every
         self.found = []
         self.cuts = []
-        return self.tree()
+        self.seek(self.bans.start)
 
-    def tree(self):
-        """The tree for what was decided; None where selections are found that can do it."""
-        if self.bound is not None and self.cost >= self.bound:
-            self.cuts.append(self.cost)
+    def seek(self, stand):
+        """Look for what can do it behind what was decided."""
+        cost = self.least_from(stand)
+        if cost is None:
+            return
+        if self.limit is not None and cost >= self.limit:
+            self.cuts.append(cost)
+            return
+        question = self.question(stand)
+        if question is None:
+            self.found.append(stand)
+            return
+        for answer in ("set", "gone", LEFT) if question[0] == "spot" else (False, True):
+            further = self.bans.further(stand, question, answer)
+            if further is not None:
+                self.seek(further)
+                if self.found and not self.every:
+                    return
+
+    def least_from(self, stand):
+        """The least that anything behind what was decided costs, as far as bans tell; None if nothing can do it."""
+        spare = {spot: price for spot, price in self.bans.cheapest.items()}
+        cost = stand.cost
+        for ban in self.bans.met(stand.held):
+            part = self.bans.charge(stand, ban, spare)
+            if part is None:
+                return None
+            cost += part
+        while self.limit is None or cost < self.limit:
+            ban = self.learn(stand, [spot for spot in spare if spare[spot] == 0])
+            if ban is None:
+                return cost
+            part = self.bans.charge(stand, ban, spare)
+            if part is None:
+                return None
+            cost += part
+        return cost
+
+    def learn(self, stand, loosened):
+        """Find a ban of what was decided, and of other spots as they are, but for some; None if there is none."""
+        chosen = {spot: LEFT for spot in self.bans.cheapest if spot not in loosened}
+        for spot, word in stand.chosen.items():
+            chosen[spot] = word
+        demands = self.all_demands(stand.ways)
+        leaf = System(Forms(self.ground, chosen, stand.ways, None), demands).first_leaf()
+        if leaf is None:
+            return None
+        named = names_in_leaf(leaf)
+        ways = {way: equal for way, equal in stand.ways.items() if way_name(way[0], way[1]) in named}
+        some = {}
+        while True:
+            forms = Forms(self.ground, some, ways, None)
+            names = loose_names(forms, demands, leaf)
+            if not names:
+                return self.bans.keep(leaf, some, ways)
+            self.answer_one(self.questions(forms, names), some, ways, (chosen, stand.ways))
+
+    def answer_one(self, questions, some, ways, known):
+        """Give the first answer that is known."""
+        for word, told in questions:
+            if word == "spot" and told in known[0]:
+                some[told] = known[0][told]
+                return
+            if word == "way" and told in known[1]:
+                ways[told] = known[1][told]
+                return
+
+    def question(self, stand):
+        """What to decide next; None if nothing more must be changed or known."""
+        left = [ban.undecided(stand) for ban in self.bans.met(stand.held)]
+        if left:
+            # A ban of few spots leaves the fewest branches.
+            fewest = min([len(spots) for spots in left])
+            return ("spot", [spots for spots in left if len(spots) == fewest][0][0])
+        forms = Forms(self.ground, stand.chosen, stand.ways, LEFT)
+        questions = self.questions(forms, self.names_in(forms, self.all_demands(stand.ways)))
+        return questions[0] if questions else None
+
+    def tree(self, stand):
+        """The tree for what was decided, where nothing below the limit can do it."""
+        if self.limit is not None and stand.cost >= self.limit:
             return ("cost",)
-        demands = self.all_demands(self.ways)
-        now = Forms(self.ground, self.chosen, self.ways, None)
-        leaf = System(now, demands).leaf()
-        if leaf is not None:
-            return leaf
-        # What would be if nothing more was changed tells what must be.
-        left = Forms(self.ground, self.chosen, self.ways, LEFT)
-        leaf = System(left, demands).leaf()
-        if leaf is not None:
-            return self.branch(self.next_question(now, demands, leaf))
-        questions = self.questions(left, self.names_in(left, demands))
-        if questions:
-            return self.branch(questions[0])
-        self.found.append((self.selection(), {way: self.ways[way] for way in self.ways}, self.cost))
-        return None
+        met = self.bans.met(stand.held)
+        broken = [ban for ban in met if ban.undecided(stand) == []]
+        if broken:
+            return broken[0].leaf
+        if not met and self.learn(stand, []) is not None:
+            return self.tree(stand)
+        question = self.question(stand)
+        if question[0] == "way":
+            return self.way_tree(stand, question)
+        trees = []
+        for answer in (LEFT, "set", "gone"):
+            further = self.bans.further(stand, question, answer)
+            trees.append(None if further is None else self.tree(further))
+        return question + tuple(trees)
+
+    def way_tree(self, stand, question):
+        """The tree that decides a way."""
+        key, literal = question[1]
+        trees = [self.tree(self.bans.further(stand, question, equal)) for equal in (False, True)]
+        return way_name(key, literal) + tuple(trees)
 
     def answers(self, near):
         """Numbers and strings for the unknowns with the selection that was found, near some numbers."""
-        chosen = {spot: word for spot, word in self.best}
-        system = System(Forms(self.ground, chosen, self.best_ways, LEFT), self.all_demands(self.best_ways))
+        system = System(Forms(self.ground, self.best.chosen, self.best.ways, LEFT), self.all_demands(self.best.ways))
         # The equations are added where a leaf is looked for, which there is not.
-        system.leaf()
+        system.first_leaf()
         return system.solution(near)
 
     def all_demands(self, ways):
@@ -116,45 +193,17 @@ class Case:
                     found[question] = True
         return list(found)
 
-    def next_question(self, now, demands, leaf):
-        """What to decide next where a leaf tells that something must change."""
-        return self.questions(now, letters_in(now, demands, leaf))[0]
 
-    def branch(self, question):
-        """The tree that decides a spot or a way."""
-        word, told = question
-        return self.spot_tree(told) if word == "spot" else self.way_tree(told)
-
-    def spot_tree(self, spot):
-        """The tree that decides a spot."""
-        set_price, gone_price = self.prices[spot]
-        trees = {}
-        for word, price in (("set", set_price), ("gone", gone_price), (LEFT, 0)):
-            trees[word] = None
-            if price is not None:
-                self.chosen[spot] = word
-                self.cost += price
-                trees[word] = self.tree()
-                self.cost -= price
-                del self.chosen[spot]
-                if self.found and not self.every:
-                    return None
-        return ("spot", spot, trees[LEFT], trees["set"], trees["gone"])
-
-    def way_tree(self, way):
-        """The tree that decides a way."""
-        trees = {}
-        for equal in (False, True):
-            self.ways[way] = equal
-            trees[equal] = self.tree()
-            del self.ways[way]
-            if self.found and not self.every:
-                return None
-        return way_name(way[0], way[1]) + (trees[False], trees[True])
-
-    def selection(self):
-        """The selection of what was decided to be set or gone."""
-        return tuple(sorted([(spot, word) for spot, word in self.chosen.items() if word != LEFT]))
+def questions_about(ground, names, prices):
+    """The questions about the spots and ways that some demands hang on."""
+    found = {}
+    for name in names:
+        for tie in ground.ties(ground.demands[name]):
+            if len(tie) == 2:
+                found[("way", tie)] = True
+            elif tie in prices:
+                found[("spot", tie)] = True
+    return list(found)
 
 
 def way_name(key, literal):

@@ -10,7 +10,7 @@ class Classes:
     def __init__(self):
         self.links = {}
 
-    def add(self, name, left, right):
+    def join_sides(self, name, left, right):
         """Add an equation."""
         self.links.setdefault(left, []).append((right, name))
         self.links.setdefault(right, []).append((left, name))

@@ -79,7 +79,7 @@ class Forms:
             return self.form(side)
         return side if isinstance(side, str) else {CONSTANT: side}
 
-    def difference(self, demand):
+    def excess_of(self, demand):
         """The form of what the left side of a demand of numbers has more than the right one."""
         total = {CONSTANT: 0}
         add_form(total, 1, self.side(demand.left))

@@ -25,6 +25,10 @@ class Moment:
         self.at = at
         self.marked = marked
 
+    def as_tuple(self):
+        """What makes two histories with one beginning equal."""
+        return (self.steps, self.at, self.marked)
+
 
 class Saved:
     """A moment to come back to, and the one that was saved ahead of it."""
@@ -90,10 +94,9 @@ class History:
         raise TypeError("a history is not iterated over: take its states")
 
     def __eq__(self, other):
-        if not isinstance(other, History):
+        if not isinstance(other, History) or self._ground != other._ground:
             return False
-        same_states = self._ground == other._ground and self._now.steps == other._now.steps
-        return same_states and self._now.at == other._now.at and self._now.marked == other._now.marked
+        return self._now.as_tuple() == other._now.as_tuple()
 
     def states(self):
         """Go through the projects of all states."""

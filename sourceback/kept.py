@@ -2,21 +2,15 @@
 
 from sourceback.errors import NoThing
 from sourceback.plans import made
-from sourceback.renewing import Renewing, has_thing_form
+from sourceback.renewing import Renewing, has_thing_form, renewed
 
 
 class Kept:
-    """A project with the values of all its things."""
+    """A project with the values of all its things; made of a project, or of a reading that has them already."""
 
     def __init__(self, project):
-        reading = Renewing(project, None)
-        reading.renew()
-        self._hold(reading)
-
-    def _hold(self, reading):
-        """Keep what was worked out."""
-        self._reading = reading
-        self._worked = tuple(sorted(reading.fresh))
+        self._reading = project if isinstance(project, Renewing) else renewed(project, None)
+        self._worked = tuple(sorted(self._reading.fresh))
 
     @property
     def project(self):
@@ -41,19 +35,8 @@ class Kept:
 
     def changed(self, plan):
         """The values of the project with the deeds of a plan."""
-        return Further(self._reading, made(self.project, plan))
+        return Kept(renewed(made(self.project, plan), self._reading))
 
     def rewritten(self, name, text):
         """The values of the project with another text for a file, or without it."""
-        return Further(self._reading, self.project.written(name, text))
-
-
-class Further(Kept):
-    """The values of a project that came from another one, of which those that can are kept."""
-
-    def __init__(self, before, project):
-        reading = Renewing(project, before)
-        reading.renew()
-        # Kept for as long as it was needed alone, so that a long history does not hang together.
-        reading.before = None
-        self._hold(reading)
+        return Kept(renewed(self.project.written(name, text), self._reading))

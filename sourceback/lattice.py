@@ -51,7 +51,7 @@ class Lattice:
         """The value of a form without its free part."""
         return form[CONSTANT] + sum([factor * self.worths[basis] for basis, factor in fixed.items()])
 
-    def add(self, name, form):
+    def fulfil(self, name, form):
         """Add an equation; if none of the integers fulfils it, return the fractions of equations that show it."""
         fixed, free = self.parts_of(form)
         left = -self.fixed_value(form, fixed)

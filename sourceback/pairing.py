@@ -57,7 +57,8 @@ class Pairing:
         over = {}
         waiting = list(reached)
         while waiting:
-            for other in self.above[waiting.pop()]:
+            item = waiting.pop()
+            for other in self.above[item]:
                 if other not in over:
                     over[other] = True
                     lower = self.lower[other]

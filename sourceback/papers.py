@@ -2,10 +2,9 @@
 
 from math import gcd
 
-from sourceback.cases import LEFT
-from sourceback.classes import Classes
+from sourceback.bans import LEFT
 from sourceback.forms import CONSTANT, Forms
-from sourceback.refuting import shared_sum
+from sourceback.refuting import do_strings_refute, shared_sum
 from sourceback.shapes import is_part, is_place, is_serial, is_spot_shaped
 
 
@@ -107,7 +106,7 @@ class Paper:
         if not self.says(name, "number", False) or not self.are_parts(parts):
             return False
         total = self.sum_of(forms, parts)
-        wanted = forms.difference(self.demand(name))
+        wanted = forms.excess_of(self.demand(name))
         found = {part: total[part][0] for part in total if total[part][0] != 0 or part == CONSTANT}
         return found == wanted and all([share[1] == 1 for share in total.values()])
 
@@ -115,18 +114,9 @@ class Paper:
         """Tell whether any value is demands of texts that cannot all hold."""
         if not isinstance(names, tuple):
             return False
-        equal = [name for name in names if self.says(name, "text", True)]
-        apart = [name for name in names if self.says(name, "text", False)]
-        if len(equal) + len(apart) < len(names) or not do_ascend(list(names)):
+        if not all([self.says(name, "text", True) or self.says(name, "text", False) for name in names]):
             return False
-        classes = Classes()
-        for name in equal:
-            demand = self.demand(name)
-            classes.add(name, forms.side(demand.left), forms.side(demand.right))
-        if classes.contradiction() is not None:
-            return True
-        demands = [self.demand(name) for name in apart]
-        return any([forms.side(demand.right) in classes.roads(forms.side(demand.left)) for demand in demands])
+        return do_ascend(names) and do_strings_refute(forms, {name: self.demand(name) for name in names}, names)
 
 
 def is_way_named(value):

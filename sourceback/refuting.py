@@ -20,7 +20,7 @@ class System:
         return [name for name in self.demands
                 if self.demands[name].kind == kind and self.demands[name].equal == equal]
 
-    def leaf(self):
+    def first_leaf(self):
         """A leaf that refutes the demands, or None."""
         for found in (self.row_leaf(), self.strings_leaf()):
             if found is not None:
@@ -29,10 +29,10 @@ class System:
 
     def row_leaf(self):
         """A leaf for equations of numbers."""
-        forms = {name: self.forms.difference(self.demands[name]) for name in self.names_of("number", True)}
+        forms = {name: self.forms.excess_of(self.demands[name]) for name in self.names_of("number", True)}
         # Short ones first: what is wrong by itself is found alone.
-        for name in sorted(forms, key=lambda name: len(forms[name])):
-            shares = self.lattice.add(name, forms[name])
+        for name in sorted(forms, key=lambda one: len(forms[one])):
+            shares = self.lattice.fulfil(name, forms[name])
             if shares is not None:
                 return ("row", parts_of(shares))
         return None
@@ -40,7 +40,8 @@ class System:
     def strings_leaf(self):
         """A leaf for texts."""
         for name in self.names_of("text", True):
-            self.classes.add(name, self.forms.side(self.demands[name].left), self.forms.side(self.demands[name].right))
+            demand = self.demands[name]
+            self.classes.join_sides(name, self.forms.side(demand.left), self.forms.side(demand.right))
         names = self.classes.contradiction()
         if names is not None:
             return ("strings", tuple(sorted(names)))
@@ -54,7 +55,7 @@ class System:
     def forced_leaf(self):
         """A leaf for numbers that are to be different."""
         for name in self.names_of("number", False):
-            shares = self.lattice.explained(self.forms.difference(self.demands[name]))
+            shares = self.lattice.explained(self.forms.excess_of(self.demands[name]))
             if shares is not None:
                 return ("forced", name, parts_of(shares))
         return None
@@ -64,12 +65,15 @@ class System:
 
         Numbers are near those that near tells for some of them.
         """
-        apart = [self.forms.difference(self.demands[name]) for name in self.names_of("number", False)]
+        apart = [self.forms.excess_of(self.demands[name]) for name in self.names_of("number", False)]
         worths = self.lattice.solved(apart, near)
         sides = [self.forms.side(side) for name in self.names_of("text", True) + self.names_of("text", False)
                  for side in (self.demands[name].left, self.demands[name].right)]
         names = [side for side in sides if isinstance(side, tuple)]
-        return {**worths, **self.classes.solved(names, [side for side in sides if isinstance(side, str)])}
+        strings = self.classes.solved(names, [side for side in sides if isinstance(side, str)])
+        for name, string in strings.items():
+            worths[name] = string
+        return worths
 
 
 def parts_of(shares):
@@ -81,19 +85,43 @@ def shared_sum(forms, demands, parts):
     """The sum of fractions of the differences of demands: fractions of letters, unknowns and of the constant."""
     total = {CONSTANT: NOTHING}
     for name, numerator, denominator in parts:
-        for part, many in forms.difference(demands[name]).items():
+        for part, many in forms.excess_of(demands[name]).items():
             total[part] = plus(total.get(part, NOTHING), times((numerator, denominator), (many, 1)))
     return total
 
 
-def letters_in(forms, demands, leaf):
-    """The letters and unknowns for which demands are not refuted by their forms as a leaf says."""
+def names_in_leaf(leaf):
+    """The names of the demands that a leaf speaks of."""
     if leaf[0] == "strings":
-        sides = [forms.side(side) for name in leaf[1] for side in (demands[name].left, demands[name].right)]
-        return [side for side in sides if isinstance(side, tuple)]
+        return list(leaf[1])
+    return [part[0] for part in leaf[-1]] + ([leaf[1]] if leaf[0] == "forced" else [])
+
+
+def loose_names(forms, demands, leaf):
+    """Letters and unknowns of which one must be told for a leaf to refute demands; none if it refutes them now."""
+    if leaf[0] == "strings":
+        return [] if do_strings_refute(forms, demands, leaf[1]) else names_in_texts(forms, demands, leaf[1])
     total = shared_sum(forms, demands, leaf[-1])
     if leaf[0] == "row":
         return [name for name in total if name != CONSTANT and total[name][1] != 1]
-    for name, many in forms.difference(demands[leaf[1]]).items():
+    for name, many in forms.excess_of(demands[leaf[1]]).items():
         total[name] = plus(total.get(name, NOTHING), (-many, 1))
     return [name for name in total if name != CONSTANT and total[name] != NOTHING]
+
+
+def names_in_texts(forms, demands, names):
+    """The letters and unknowns in the sides of demands of texts."""
+    sides = [forms.side(side) for name in names for side in (demands[name].left, demands[name].right)]
+    return [side for side in sides if isinstance(side, tuple)]
+
+
+def do_strings_refute(forms, demands, names):
+    """Tell whether demands of texts cannot all hold."""
+    classes = Classes()
+    for name in names:
+        if demands[name].equal:
+            classes.join_sides(name, forms.side(demands[name].left), forms.side(demands[name].right))
+    if classes.contradiction() is not None:
+        return True
+    apart = [demands[name] for name in names if not demands[name].equal]
+    return any([forms.side(demand.right) in classes.roads(forms.side(demand.left)) for demand in apart])

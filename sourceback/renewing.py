@@ -44,6 +44,15 @@ class Renewing(Reading):
         return True
 
 
+def renewed(project, before):
+    """A reading with all things of a project worked out, but for those that can be kept from one before."""
+    reading = Renewing(project, before)
+    reading.renew()
+    # Needed no more, so that a long history does not hang together.
+    reading.before = None
+    return reading
+
+
 def has_thing_form(value):
     """Tell whether any value has the form of a thing."""
     if not isinstance(value, tuple) or len(value) not in (2, 3) or not isinstance(value[0], str):

@@ -86,7 +86,7 @@ class Search:
         """The sets and gones of a selection with the least cost, and the sets of new items."""
         spots = self.ground.spots
         fresh = [key for key, node in self.ground.nodes.items() if not node.rungs]
-        selection = [pair for case in self.cases for pair in case.best]
+        selection = [pair for case in self.cases for pair in case.best.selection()]
         near = {}
         for spot, word in selection:
             value = value_at(spots.stored, spot)
@@ -94,7 +94,8 @@ class Search:
                 near[spot] = value.worth
         worths = {}
         for case in self.cases:
-            worths.update(case.answers(near))
+            for name, worth in case.answers(near).items():
+                worths[name] = worth
         sets = [spot for spot, word in selection if word == "set"] + fresh
         deeds = [("gone", spot) for spot, word in selection if word == "gone"]
         # What stands in no demand may be anything.

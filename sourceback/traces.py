@@ -32,7 +32,8 @@ def sources(project, thing):
     met = {thing: True}
     waiting = [thing]
     while waiting:
-        for step in steps_of(reading, waiting.pop()):
+        read = waiting.pop()
+        for step in steps_of(reading, read):
             if step[0] == "literal":
                 spots[step[1]] = True
             elif step[0] == "read" and step[1] not in met:

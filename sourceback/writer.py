@@ -130,5 +130,5 @@ def entries_text(worths):
             parts.append(f"{name}: {literal_text(worths[(name,)])}")
         else:
             inner = {path[1:]: worths[path] for path in worths if path[0] == name}
-            parts.append(f"{name}: {{ {entries_text(inner)} }}")
+            parts.append(" ".join([f"{name}:", "{", entries_text(inner), "}"]))
     return " ".join(parts)
