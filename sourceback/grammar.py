@@ -2,6 +2,7 @@
 
 from sourceback.errors import SourceError
 from sourceback.files import QUOTE, is_name, next_start, tokens
+from sourceback.numerals import number_in
 from sourceback.trees import Body, Choice, Column, Entry, FileTree, Literal, Loop, Mark, Owner
 from sourceback.trees import Path, Record, Stock, Sum, Term, Where
 
@@ -225,7 +226,7 @@ class Parser:
         """A number without a sign."""
         if not self.token().isdigit():
             self.refuse()
-        return int(self.take())
+        return number_in(self.take())
 
     def read_literal(self):
         """A literal."""

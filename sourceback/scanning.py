@@ -2,6 +2,7 @@
 
 from sourceback.errors import BadText
 from sourceback.files import DIGITS, LETTERS, QUOTE, is_name, run_end, string_end
+from sourceback.numerals import number_in
 
 MOST_DIGITS = 1000
 DEEPEST = 40
@@ -61,7 +62,7 @@ class Scanner:
         digits = self.take_to(run_end(self.whole, self.at, DIGITS))
         if not 1 <= len(digits) <= MOST_DIGITS or (digits[0] == "0" and digits != "0"):
             self.refuse()
-        return int(digits)
+        return number_in(digits)
 
     def take_serial(self):
         """A serial."""

@@ -1,5 +1,6 @@
 """The writer: makes deeds in the texts of files and touches nothing else."""
 
+from sourceback.numerals import numeral
 from sourceback.pages import Page
 from sourceback.spots import value_at
 from sourceback.trees import Body, Loop, Record
@@ -12,7 +13,7 @@ def written_files(project, deeds):
 
 def literal_text(worth):
     """A number or string as it stands in a file."""
-    return f'"{worth}"' if isinstance(worth, str) else str(worth)
+    return f'"{worth}"' if isinstance(worth, str) else numeral(worth)
 
 
 class Writer:
