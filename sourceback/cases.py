@@ -22,17 +22,17 @@ class Case:
         self.found = []
         # What it costs at least to go on where the limit was met.
         self.cuts = []
-        # What was decided for a selection with the least cost, this cost, and the tree that shows it; if there
-        # is none, the tree shows that.
+        # What was decided for a selection with the least cost, None if nothing can do it; and this cost.
         self.best = None
         self.least = 0
-        self.shown = None
+        # The case that comes next where a tree tells the cost of several, and the trees by what they show.
+        self.behind = None
+        self.trees = {}
 
     def work(self):
         """Find a selection with the least cost, or that there is none."""
         self.begin(None, False)
         if not self.found:
-            self.shown = self.tree(self.bans.start)
             return
         self.best = self.found[0]
         while self.least < self.best.cost:
@@ -41,8 +41,6 @@ class Case:
                 self.best = self.found[0]
             else:
                 self.least = min(self.cuts)
-        self.limit = self.least
-        self.shown = self.tree(self.bans.start)
 
     def all_best(self):
         """All selections with the least cost, each once."""
@@ -135,29 +133,37 @@ class Case:
         questions = self.questions(forms, self.names_in(forms, self.all_demands(stand.ways)))
         return questions[0] if questions else None
 
-    def tree(self, stand):
-        """The tree for what was decided, where nothing below the limit can do it."""
-        if self.limit is not None and stand.cost >= self.limit:
+    def tree_to(self, bound):
+        """The tree that shows that this case and those behind it cost a bound or more; that nothing does it for None."""
+        if bound not in self.trees:
+            self.trees[bound] = self.tree(self.bans.start, bound)
+        return self.trees[bound]
+
+    def tree(self, stand, bound):
+        """The tree to a bound for what was decided."""
+        if bound is not None and stand.cost >= bound:
             return ("cost",)
+        if bound is not None and stand.cost >= self.least:
+            return self.behind.tree_to(bound - stand.cost)
         met = self.bans.met(stand.held)
         broken = [ban for ban in met if ban.undecided(stand) == []]
         if broken:
             return broken[0].leaf
         if not met and self.learn(stand, []) is not None:
-            return self.tree(stand)
+            return self.tree(stand, bound)
         question = self.question(stand)
         if question[0] == "way":
-            return self.way_tree(stand, question)
+            return self.way_tree(stand, question, bound)
         trees = []
         for answer in (LEFT, "set", "gone"):
             further = self.bans.further(stand, question, answer)
-            trees.append(None if further is None else self.tree(further))
+            trees.append(None if further is None else self.tree(further, bound))
         return question + tuple(trees)
 
-    def way_tree(self, stand, question):
+    def way_tree(self, stand, question, bound):
         """The tree that decides a way."""
         key, literal = question[1]
-        trees = [self.tree(self.bans.further(stand, question, equal)) for equal in (False, True)]
+        trees = [self.tree(self.bans.further(stand, question, equal), bound) for equal in (False, True)]
         return way_name(key, literal) + tuple(trees)
 
     def answers(self, near):

@@ -79,7 +79,7 @@ class Search:
         for case in self.cases:
             case.work()
             if case.best is None:
-                return case.shown
+                return case.tree_to(None)
         return None
 
     def all_deeds(self):
@@ -121,18 +121,8 @@ class Search:
         return sum([case.least for case in self.cases])
 
     def tree(self):
-        """A tree for the least cost: that of each case at the ends of the one ahead."""
-        tree = ("cost",)
-        for case in self.cases[::-1]:
-            tree = grafted(case.shown, tree)
-        return tree
-
-
-def grafted(tree, further):
-    """A tree with another one in the place of its ends that tell the cost."""
-    if tree is None or tree[0] not in ("cost", "spot", "way", "field"):
-        return tree
-    if tree[0] == "cost":
-        return further
-    at = 2 if tree[0] == "spot" else 3
-    return tree[:at] + tuple([grafted(part, further) for part in tree[at:]])
+        """A tree for the least cost: that of each case that costs something at ends of the one ahead."""
+        costly = [case for case in self.cases if case.least > 0]
+        for at in range(1, len(costly)):
+            costly[at - 1].behind = costly[at]
+        return costly[0].tree_to(self.least_cost()) if costly else ("cost",)

@@ -17,6 +17,9 @@ FUNCTIONS = {
     "plans": {"is_plan": ["project", "value", "locked"], "made": ["project", "plan"], "cost_of": ["project", "plan", "costs"]},
     "rows": {"going": ["project", "edit", "locked"], "coming": ["project", "edit"], "moves": ["old", "new"],
              "chains": ["project", "edit", "locked"], "shows_chains": ["project", "edit", "value", "locked"]},
+    "search": {"selections": ["project", "edit", "locked", "costs"]},
+    "leading": {"lead": ["project", "edit", "locked", "costs"], "shows_led": ["project", "edit", "value", "locked", "costs"],
+                "shows_refused": ["project", "edit", "value", "locked", "costs"]},
     "texts": {"show_edit": ["edit"], "read_edit": ["text"], "show_plan": ["plan"], "read_plan": ["text"], "show_output": ["project", "file"]},
 }
 # The methods of classes with their arguments, the signs, the properties.
@@ -27,8 +30,14 @@ CLASSES = {
     ("kept", "Kept"): (
         {"__init__": ["self", "project"], "changed": ["self", "plan"], "rewritten": ["self", "name", "text"]},
         ("__getitem__", "__len__"), ("project", "worked")),
+    ("history", "History"): (
+        {"__init__": ["self", "project"], "lead": ["self", "edit", "locked", "costs"], "write": ["self", "name", "text"], "undo": ["self"], "redo": ["self"],
+         "mark": ["self", "name"], "go": ["self", "name"], "merge": ["self", "other", "locked", "costs"], "trial": ["self"], "tried": ["self", "look"],
+         "states": ["self"], "text": ["self"]},
+        ("__getitem__", "__len__", "__eq__"), ("project", "kept", "place", "marks")),
+    ("desk", "Desk"): ({"__init__": ["self"], "say": ["self", "line"]}, (), ()),
 }
-GENERATORS = {"tokens", "clashes", "trace"}
+GENERATORS = {"tokens", "clashes", "trace", "selections"}
 
 
 class Interface(unittest.TestCase):
@@ -51,12 +60,30 @@ class Interface(unittest.TestCase):
             found = getattr(importlib.import_module("sourceback." + module), name)
             self.assertEqual(found.__module__, "sourceback." + module)
             for method, arguments in methods.items():
-                self.assertEqual(list(inspect.signature(vars(found)[method]).parameters), arguments)
+                signature = inspect.signature(vars(found)[method])
+                self.assertEqual(list(signature.parameters), arguments)
+                self.assertEqual(inspect.isgeneratorfunction(vars(found)[method]), method == "states")
+                for argument in signature.parameters.values():
+                    behind = {"locked": argument.KEYWORD_ONLY, "costs": argument.VAR_KEYWORD}
+                    self.assertEqual(argument.kind, behind.get(argument.name, argument.POSITIONAL_OR_KEYWORD), method)
             for part in signs + properties:
                 self.assertIn(part, vars(found))
             for part in properties:
                 self.assertIsInstance(vars(found)[part], property)
                 self.assertIsNone(vars(found)[part].fset)
+
+    def test_a_class_method(self):
+        history = importlib.import_module("sourceback.history").History
+        self.assertIsInstance(vars(history)["read"], classmethod)
+        self.assertEqual(list(inspect.signature(history.read).parameters), ["text"])
+
+    def test_what_leading_gives(self):
+        leading = importlib.import_module("sourceback.leading")
+        self.assertEqual(leading.Led.__module__, "sourceback.leading")
+        project = importlib.import_module("sourceback.projects").Project((("main", "document { a: 1 }"),))
+        led = leading.lead(project, (("set", ("main", ("a",)), 2),))
+        self.assertIs(type(led), leading.Led)
+        self.assertEqual((led.project["main"], led.plan, led.cost, len(led.paper)), ("document { a: 2 }", (("set", ("main", "", ("a",)), 2),), 2, 2))
 
 
 if __name__ == "__main__":
