@@ -134,7 +134,7 @@ class Case:
         return questions[0] if questions else None
 
     def tree_to(self, bound):
-        """The tree that shows that this case and those behind it cost a bound or more; that nothing does it for None."""
+        """The tree that shows that this case and those behind it cost a bound or more; None: that nothing does it."""
         if bound not in self.trees:
             self.trees[bound] = self.tree(self.bans.start, bound)
         return self.trees[bound]

@@ -1,6 +1,7 @@
 """The plainest rules of the language that the package is written in, as far as a program sees them."""
 
 import ast
+import builtins
 import pathlib
 import unittest
 
@@ -114,6 +115,61 @@ class Language(unittest.TestCase):
             for sign, part in zip(node.ops, node.comparators):
                 if isinstance(sign, (ast.Is, ast.IsNot)):
                     self.assertIsInstance(part, ast.Constant, (name, node.lineno))
+
+    def attributes(self):
+        """The names of attributes that are assigned, of methods, and of properties."""
+        stored = {node.attr for _, node in self.nodes(ast.Attribute) if isinstance(node.ctx, ast.Store)}
+        methods, properties = set(), set()
+        for _, node in self.nodes(ast.ClassDef):
+            for part in node.body:
+                if isinstance(part, ast.FunctionDef):
+                    (properties if part.decorator_list and ast.unparse(part.decorator_list[0]) == "property" else methods).add(part.name)
+        return stored, methods, properties
+
+    def test_properties_have_names_of_their_own(self):
+        stored, methods, properties = self.attributes()
+        self.assertEqual(properties & (stored | methods), set())
+        self.assertEqual(methods & stored, set())
+
+    def test_methods_and_attributes_do_not_have_the_names_of_those_of_builtin_values(self):
+        taken = {name for kind in (str, int, list, tuple, dict, set, bytes) for name in dir(kind) if not name.startswith("__")}
+        stored, methods, properties = self.attributes()
+        self.assertEqual((methods | properties) & taken, set())
+        self.assertLessEqual(stored & taken, {"index", "lower", "upper"})
+
+    def test_attributes_that_are_read_are_assigned(self):
+        stored, methods, properties = self.attributes()
+        for name, node in self.nodes(ast.Call):
+            if isinstance(node.func, ast.Attribute):
+                node.func.called = True
+        for name, node in self.nodes(ast.Attribute):
+            if isinstance(node.ctx, ast.Load) and not hasattr(node, "called"):
+                self.assertIn(node.attr, stored | properties, (name, node.lineno))
+
+    def test_no_name_is_that_of_a_builtin(self):
+        for name, node in self.nodes(ast.FunctionDef, ast.ClassDef, ast.arg, ast.Name):
+            found = node.id if isinstance(node, ast.Name) else node.arg if isinstance(node, ast.arg) else node.name
+            if not isinstance(node, ast.Name) or isinstance(node.ctx, ast.Store):
+                self.assertNotIn(found, dir(builtins), (name, node.lineno))
+
+    def test_what_a_loop_goes_over_is_not_changed_in_it(self):
+        changing = {"append", "pop", "remove", "insert", "extend", "update", "setdefault", "clear", "reverse", "add"}
+        for name, node in self.nodes(ast.For):
+            over = {ast.unparse(part) for part in ast.walk(node.iter) if isinstance(part, (ast.Name, ast.Attribute))}
+            if isinstance(node.iter, ast.Call) and ast.unparse(node.iter.func) == "list":
+                over = set()
+            for part in [inner for row in node.body for inner in ast.walk(row)]:
+                if isinstance(part, ast.Call) and isinstance(part.func, ast.Attribute) and part.func.attr in changing:
+                    self.assertNotIn(ast.unparse(part.func.value), over, (name, node.lineno))
+                if isinstance(part, ast.Subscript) and not isinstance(part.ctx, ast.Load):
+                    self.assertNotIn(ast.unparse(part.value), over, (name, node.lineno))
+                if isinstance(part, ast.AugAssign):
+                    self.assertNotIn(ast.unparse(part.target), over, (name, node.lineno))
+
+    def test_comparisons_and_lengths_assign_nothing(self):
+        for name, node in self.nodes(ast.FunctionDef):
+            if node.name in ("__eq__", "__len__", "__contains__", "__getitem__"):
+                self.assertFalse([part for part in ast.walk(node) if isinstance(part, (ast.Assign, ast.AugAssign, ast.For))], (name, node.lineno))
 
     def test_decorators_are_those_of_methods(self):
         for name, node in self.nodes(ast.FunctionDef):
