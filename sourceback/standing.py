@@ -100,7 +100,7 @@ class Items:
         left = self.arriving + self.staying
         order = []
         while left:
-            ready = [serial for serial in left if all([other in order for other in ahead[serial]])]
+            ready = [serial for serial in left if all([one in order for one in ahead[serial]])]
             order.append(ready[0])
             left.remove(ready[0])
         return tuple(order)

@@ -11,7 +11,7 @@ from planning import COSTS
 from small import FACTORS, reachable, small_worlds, somewhere, told
 from sourceback.edits import wish_of, wished
 from sourceback.errors import BadEdit, Refused, StepError, TooLarge
-from sourceback.leading import lead
+from sourceback.leading import lead, shows_led
 from sourceback.plans import cost_of
 from sourceback.projects import Project
 from sourceback.search import selections
@@ -275,6 +275,42 @@ class SideBySide(unittest.TestCase):
                 others = [2 + 3 * len([value for value in wanted if value != one]) for one in set(wanted) - {old[sort]}]
                 cost += min([3 * len([value for value in wanted if value != old[sort]])] + others)
             self.assertEqual(lead(project(text), edit).cost, cost)
+
+
+class ManyAtOnce(unittest.TestCase):
+    """Wishes of many values that hang together over templates: what was found impossible once is not tried again."""
+
+    def check(self, text, edit, cost, count):
+        found = project(text)
+        led = lead(found, edit)
+        self.assertEqual((led.cost, cost_of(found, led.plan)), (cost, cost))
+        self.assertEqual(labelled(led.project, "main"), wished(found, edit, "main"))
+        self.assertTrue(shows_led(found, edit, (led.plan, led.paper)))
+        chosen = list(selections(found, edit))
+        self.assertEqual(len(chosen), count)
+        self.assertEqual(chosen, sorted(set(chosen)))
+
+    def test_six_uses(self):
+        text = ("template t { a: 844977979 let b: 0 c: 3 * a + 1 * b d: a - b } template w { let k: 720998172 p: 1 * k + 741703551 q: k } "
+                "template v = t { a: 439870152 } document { a: new v { a: 2 } b: new v c: new v { b: 995508445 } d: new v e: new t f: new w }")
+        values = [(("c", "c"), 4630237802), (("f", "q"), 7), (("b", "a"), 7), (("d", "d"), 7), (("c", "a"), 477033466), (("e", "a"), 1689955958)]
+        self.check(text, tuple(("set", ("main", path), value) for path, value in values), 36, 8)
+
+    def test_sums_of_many_hidden_numbers(self):
+        chance = random.Random(8)
+        names = [one + other for one in "abcd" for other in "abcde"]
+        text = "document { " + " ".join(f"let {name}: 1" for name in names) + " " + " ".join(
+            f"s{name}: " + " + ".join(f"{factor} * {part}" for factor, part in zip((1, 2, 3, 5), chance.sample(names, 4))) for name in names[:6]) + " }"
+        found = project(text)
+        edit = tuple(("set", ("main", (f"s{name}",)), 12) for name in names[:6])
+        led = lead(found, edit)
+        self.assertTrue(shows_led(found, edit, (led.plan, led.paper)))
+        for selection in selections(found, edit):
+            self.assertEqual(2 * len(selection), led.cost)
+
+    def test_parts_that_have_nothing_to_do_with_each_other(self):
+        text = " ".join(f"template t{name} {{ let a: 1 let b: 2 s: a + b }}" for name in "abcde") + " document { " + " ".join(f"{name}: new t{name}" for name in "abcde") + " }"
+        self.check(text, tuple(("set", ("main", (name, "s")), 5) for name in "abcde"), 10, 2 ** 5)
 
 
 class Errors(unittest.TestCase):
