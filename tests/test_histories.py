@@ -284,6 +284,73 @@ class States(Merging):
         one.merge(other)
         self.assertEqual(output(one.project, "main"), (("a", ()), ("b", ((("v", 1),), (("v", 1),)))))
 
+    def test_rows_of_old_items_keep_their_serials(self):
+        found = project(PEOPLE[1].replace('{ title: "c" owner: "Ann" }', '{ title: "c" owner: "Ann" } { title: "d" owner: "" }'))
+        there = led_by(found, (("put", B, 1, 3, card("d")),))
+        here = led_by(found, (("put", A, 0, 4, card("e")),))
+        led = here.merge(there)
+        self.assertEqual((led.cost, led.plan), (2, (("set", ("main", "tasks", (3, "owner")), "Bob"),)))
+        self.assertEqual(dict(wish_of(here.project, ())[1])[B], (1, 3))
+
+    def test_an_old_item_that_is_gone_here_is_a_new_one(self):
+        found = project("list l (n: number, v: number) [ { n: 0 v: 7 } { n: 2 v: 8 } ] template t { v: 0 } document { "
+                        "a: for x in l where x.n = 0 give t { v: x.v } b: for x in l where x.n = 1 give t { v: x.v } }")
+        a, b = ("main", ("a",)), ("main", ("b",))
+        split = project(found["main"].replace("n: 0 v: 7", "n: 0 v: 8"), two="import main document { c: for x in l where x.v = 8 give t }")
+        here = led_by(split, (("take", a, 0), ("take", ("two", ("c",)), 0)))
+        self.assertEqual(here.project.serials("main", "l"), (1,))
+        there = led_by(split, (("carry", a, 0, b, 0),))
+        self.assertRaises(Clash, here.merge, there)
+        # A row of its own there is another row than the one that is taken here.
+        apart = project("list l (n: number, k: number) [ { n: 1 k: 0 } ] template t { } document { "
+                        "a: for x in l where x.n = 1 give t b: for x in l where x.k = 1 give t }")
+        here, there = led_by(apart, (("take", a, 0),)), led_by(apart, (("put", b, 0, 0, ()),))
+        led = here.merge(there)
+        self.assertEqual(led.plan[0], ("order", "main", "l", (1,)))
+        self.assertEqual((dict(wish_of(here.project, ())[1]), here.project.next_serial("main", "l")), ({a: (), b: (1,)}, 2))
+
+    def test_a_new_item_has_one_serial_in_all_its_rows(self):
+        found = project("list l (n: number) [ { n: 1 } ] template t { v: 0 } document { a: for x in l give t { v: x.n } b: for x in l give t { v: 2 * x.n } }")
+        a, b = ("main", ("a",)), ("main", ("b",))
+
+        def put(serial, value):
+            return (("put", a, 0, serial, (("v", value),)), ("put", b, 0, serial, (("v", 2 * value),)))
+        here, there = led_by(found, put(1, 5)), led_by(found, put(1, 6), put(2, 7))
+        led = here.merge(there)
+        self.assertEqual(led.cost, 6)
+        rows = dict(wish_of(here.project, ())[1])
+        self.assertEqual((rows[a], sorted(rows[a])), (rows[b], [0, 1, 2, 3]))
+        self.assertEqual(output(here.project, "main")[0], ("a", tuple((("v", value),) for value in (5, 7, 6, 1))))
+
+    def test_a_row_put_back_is_the_one_that_stood_there(self):
+        found = project("list l (n: number, k: number, v: number, w: number) [ { n: 1 k: 0 v: 5 w: 6 } { n: 0 k: 1 v: 7 w: 8 } ] template t { v: 0 } template u { "
+                        "a: for x in l where x.n = 1 give t { v: x.v } b: for x in l where x.k = 1 give t { v: x.w } } document { in: new u }".replace("in:", "box:"))
+        a, b = ("main", ("box", "a")), ("main", ("box", "b"))
+        # Taken, while the item is still shown elsewhere, and put back: nothing is changed in the end.
+        both = led_by(found, (("put", b, 0, 0, (("v", 6),)),))
+        there = led_by(found, (("put", b, 0, 0, (("v", 6),)),), (("take", a, 0),), (("put", a, 0, 0, (("v", 5),)),))
+        self.assertIsNone(both.merge(there))
+        here = led_by(found, (("put", b, 0, 0, (("v", 6),)),), (("set", ("main", ("box", "a", 0, "v")), 9),))
+        self.assertIsNone(here.merge(there))
+        self.assertEqual(there.merge(here).plan, (("set", ("main", "l", (0, "v")), 9),))
+        # The row that was carried away is not the one that stands there again.
+        there = led_by(found, (("carry", a, 0, b, 1), ("set", ("main", ("box", "b", 0, "v")), 6)), (("put", a, 0, 0, (("v", 5),)),))
+        here = led_by(found, (("set", ("main", ("box", "a", 0, "v")), 9),))
+        here.merge(there)
+        self.assertEqual(output(here.project, "main"), (("box", (("a", ((("v", 9),),)), ("b", ((("v", 8),), (("v", 6),))))),))
+
+    def test_all_rows_taken_and_one_put_back(self):
+        two = project(PEOPLE[1], other="import main document { all: for t in tasks give card { title: t.title } }")
+        taken = tuple(("take", place, serial) for place, serial in ((A, 0), (A, 2), (B, 1)))
+        there = led_by(two, taken, (("put", A, 0, 2, card("c")),))
+        title = ("other", ("all", 2, "title"))
+        here = led_by(two, sets(TITLE, "x") + sets(title, "x"))
+        here.merge(there)
+        self.assertEqual(dict(wish_of(here.project, ())[0])[TITLE], "x")
+        self.assertEqual([dict(wish_of(here.project, ())[1])[place] for place in (A, B)], [(2,), ()])
+        self.clashes(led_by(two, sets(("main", ("people", 0, "cards", 0, "title")), "x") + sets(("other", ("all", 0, "title")), "x")), there,
+                     ("value", ("main", ("people", 0, "cards", 0, "title"))), ("row", A, 0))
+
     def test_locked_files_and_costs_are_handed_on(self):
         found = project(lib="template t { a: 3 }", main="import lib document { u: new t v: new t }")
         both = (("set", ("main", ("u", "a")), 5), ("set", ("main", ("v", "a")), 5))
