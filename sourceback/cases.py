@@ -20,8 +20,6 @@ class Case:
         self.limit = None
         self.every = False
         self.found = []
-        # What it costs at least to go on where the limit was met.
-        self.cuts = []
         # What was decided for a selection with the least cost, None if nothing can do it; and this cost.
         self.best = None
         self.least = 0
@@ -32,15 +30,10 @@ class Case:
     def work(self):
         """Find a selection with the least cost, or that there is none."""
         self.begin(None, False)
-        if not self.found:
-            return
-        self.best = self.found[0]
-        while self.least < self.best.cost:
-            self.begin(self.least + 1, False)
-            if self.found:
-                self.best = self.found[0]
-            else:
-                self.least = min(self.cuts)
+        while self.found:
+            self.best = self.found[0]
+            self.least = self.best.cost
+            self.begin(self.least, False)
 
     def all_best(self):
         """All selections with the least cost, each once."""
@@ -52,27 +45,29 @@ class Case:
         self.limit = limit
         self.every = every
         self.found = []
-        self.cuts = []
         self.seek(self.bans.start)
 
     def seek(self, stand):
         """Look for what can do it behind what was decided."""
         cost = self.least_from(stand)
-        if cost is None:
-            return
-        if self.limit is not None and cost >= self.limit:
-            self.cuts.append(cost)
+        if cost is None or (self.limit is not None and cost >= self.limit):
             return
         question = self.question(stand)
         if question is None:
             self.found.append(stand)
             return
-        for answer in ("set", "gone", LEFT) if question[0] == "spot" else (False, True):
+        for answer in self.answers_to(question):
             further = self.bans.further(stand, question, answer)
             if further is not None:
                 self.seek(further)
                 if self.found and not self.every:
                     return
+
+    def answers_to(self, question):
+        """The answers to a question, first the one behind which something is likely to be found."""
+        if question[0] == "way":
+            return (False, True)
+        return ("set", "gone", LEFT) if self.limit is None else (LEFT, "set", "gone")
 
     def least_from(self, stand):
         """The least that anything behind what was decided costs, as far as bans tell; None if nothing can do it."""
